@@ -1,0 +1,1 @@
+"""Leadrules: days by rules that nobody told."""

@@ -1,0 +1,244 @@
+"""What holds for all functions and methods alike: names, errors, and that nothing passed is changed."""
+
+import copy
+import inspect
+import unittest
+
+from leadrules import basics, books, formulas, laid, pictures, sayings, tables
+from leadrules.books import Book
+from leadrules.tables import Table
+from tests import cases
+from tests.wrong import ANYTHING, check_refused, raised
+
+# Errors of parameters that hang on another parameter, so that one wrong value is due ahead of it.
+SEQUENCES = {
+    "trimmed": ["saying", "picture", "book"],
+}
+
+INTERFACE = {
+    "basics": "is_day(value) is_count(value) is_rule(value) is_name(value) is_days(value)",
+    "tables": "is_table(value) is_world(value)",
+    "joined": "behind(table,other_table) later(table,other_table) sooner(table,other_table)"
+              " first_above(table,other_table) most_above(table,other_table) first_parting(table,other_table)"
+              " times(table,count) run_of(table,day,count) run_end(table,day,count) through(tables,day)"
+              " reach(table,day,goal) rounds(table) round_of(table,day) pace(table) earliest_with(count,rows)"
+              " latest_with(count,rows)",
+    "formulas": "is_formula(value) day_of(formula,days,world) is_chain(value) rows_of(formula) woven(rows)"
+                " last_day(formula,day,world) first_day(formula,day,world)",
+    "sayings": "is_saying(value) holds(saying,days,world) pieces(told) names_of(told) rules_of(told)"
+               " put(told,name,formula) with_rules(told,rules) with_names(told,names) pushed(saying)"
+               " contrary(saying) positive(saying) ways(saying) plain(told)",
+    "turning": "turned_down(formula,name) turned_up(formula,name) freed(saying,name)",
+    "books": "",
+    "beneath": "beneath(book,rule) above(book,rule) low(book,rule) high(book,rule) low_chain(book,rule)"
+               " high_chain(book,rule) torn(book) quick_pairs(book)",
+    "pictures": "is_picture(value,book) clash(value,book) places(picture,book)"
+                " joined_pictures(picture,other_picture,book) asks_of(world,days,formula)"
+                " picture_of(world,days,saying) keeps(world,book) agrees(world,picture,book)",
+    "laid": "base(picture,book,rule) laid_on(picture,book,rule,day) laid_by(picture,book,rule,day)"
+            " laid_til(picture,book,rule,day) laid_days(picture,book,rule,day,many)"
+            " laid_value(picture,book,formula) laid_holds(picture,book,saying) is_break(value,saying,book)"
+            " trimmed(picture,saying,book)",
+}
+TABLE_METHODS = ("days() asked_rows() on(day) by(day) til(day) answers(day,count) is_served(day) leads() mean_lead()"
+                 " fixed_days() moved(day) asked_later(day) by_table() til_table() stretched(count) shortest()"
+                 " is_same(other_table) __call__(day) __init__(days)")
+BOOK_METHODS = ("with_row(row) without_row(row) with_promise(promise) without_promise(promise) joined(book)"
+                " rows_of(rule) __init__(log,promises)")
+
+
+def calls(text):
+    """The list of (name, parameters) of a line of the interface."""
+    return [(word[:-1].split("(")[0], [part for part in word[:-1].split("(")[1].split(",") if part])
+            for word in text.split()]
+
+
+def content(value):
+    """What a value holds, with the order of keys, and what Tables and Books hold."""
+    if isinstance(value, Table):
+        return ("Table", value.days())
+    if isinstance(value, Book):
+        return ("Book", value.log, value.promises)
+    if isinstance(value, dict):
+        return ("dict", [(key, content(value[key])) for key in value])
+    if isinstance(value, (list, tuple)):
+        return (value.__class__.__name__, [content(part) for part in value])
+    return value
+
+
+def spoil(value):
+    """Change all lists and dicts in a value, inside tuples too."""
+    if isinstance(value, dict):
+        for part in list(value.values()):
+            spoil(part)
+        value["spoiled"] = True
+    elif isinstance(value, list):
+        for part in value:
+            spoil(part)
+        value.append("spoiled")
+    elif isinstance(value, tuple):
+        for part in value:
+            spoil(part)
+
+
+def dicts_in(value):
+    """All dicts in a value."""
+    found = [value] if isinstance(value, dict) else []
+    parts = list(value.values()) if isinstance(value, dict) else value if isinstance(value, (list, tuple)) else []
+    for part in parts:
+        found.extend(dicts_in(part))
+    return found
+
+
+class Names(unittest.TestCase):
+    def test_functions_stand_in_their_files(self):
+        for module in (basics, books, formulas, laid, pictures, sayings, tables, cases.joined, cases.turning,
+                       cases.beneath):
+            short = module.__name__.split(".")[1]
+            for name, parameters in calls(INTERFACE[short]):
+                with self.subTest(module=short, name=name):
+                    function = vars(module)[name]
+                    self.assertTrue(inspect.isfunction(function))
+                    self.assertEqual(function.__module__, module.__name__)
+                    self.assertEqual(list(inspect.signature(function).parameters), parameters)
+
+    def test_methods_stand_in_their_classes(self):
+        for owner, text in ((Table, TABLE_METHODS), (Book, BOOK_METHODS)):
+            for name, parameters in calls(text):
+                with self.subTest(owner=owner.__name__, name=name):
+                    self.assertEqual(list(inspect.signature(vars(owner)[name]).parameters), ["self"] + parameters)
+        self.assertEqual((Table.__module__, Book.__module__), ("leadrules.tables", "leadrules.books"))
+
+    def test_properties_and_class_values(self):
+        self.assertIsInstance(vars(Table)["length"], property)
+        for name in ("log", "promises", "rules"):
+            self.assertIsInstance(vars(Book)[name], property)
+        self.assertIsInstance(vars(Table)["plain"], classmethod)
+        self.assertEqual(str(inspect.signature(Table.plain)), "(count=1)")
+        self.assertEqual(Table.MOST_LENGTH, 600)
+        for owner, names in ((Table, ("__eq__", "__repr__")), (Book, ("__eq__",))):
+            for name in names:
+                self.assertIn(name, vars(owner))
+
+    def test_each_function_has_a_case(self):
+        named = {case["call"].__name__ for case in cases.function_cases()}
+        for text in INTERFACE.values():
+            for name, _ in calls(text):
+                self.assertIn(name, named)
+
+
+class Alike(unittest.TestCase):
+    def each(self, check):
+        """Make a check of each case."""
+        for case in cases.all_cases():
+            label = getattr(case["call"], "__name__", "call")
+            with self.subTest(call=label):
+                check(label, case)
+
+    def test_by_position_and_by_name(self):
+        def check(_, case):
+            arguments = case["arguments"]
+            self.assertEqual(content(case["call"](**arguments)), content(case["call"](*arguments.values())))
+
+        self.each(check)
+
+    def test_wrong_values(self):
+        def check(_, case):
+            for name, (error, values) in case["wrong"].items():
+                for value in values:
+                    check_refused(self, error, value, lambda: case["call"](**dict(case["arguments"], **{name: value})))
+
+        self.each(check)
+
+    def test_first_error_first(self):
+        def check(label, case):
+            names = [name for name in SEQUENCES.get(label, list(case["arguments"])) if name in case["wrong"]]
+            for at, first in enumerate(names):
+                for second in names[at + 1:]:
+                    error, values = case["wrong"][first]
+                    others = case["wrong"][second][1]
+                    for value, other in ((values[0], others[0]), (values[1], others[-1]), (values[-1], others[1])):
+                        wrongs = {first: value, second: other}
+                        check_refused(self, error, value, lambda: case["call"](**dict(case["arguments"], **wrongs)))
+
+        self.each(check)
+
+    def test_nothing_passed_is_changed(self):
+        def check(_, case):
+            held = getattr(case["call"], "__self__", None)
+            ahead = content(case["arguments"]), content(held)
+            result = case["call"](**case["arguments"])
+            self.assertEqual((content(case["arguments"]), content(held)), ahead)
+            spoil(result)
+            self.assertEqual((content(case["arguments"]), content(held)), ahead)
+
+        self.each(check)
+
+    def test_what_is_returned_is_new(self):
+        def check(_, case):
+            first = case["call"](**case["arguments"])
+            told = content(copy.deepcopy(first) if not isinstance(first, (Table, Book)) else first)
+            spoil(first)
+            self.assertEqual(content(case["call"](**case["arguments"])), told)
+
+        self.each(check)
+
+    def test_returned_keys_are_sorted(self):
+        def check(_, case):
+            for table in dicts_in(case["call"](**case["arguments"])):
+                self.assertEqual(list(table), sorted(table))
+
+        self.each(check)
+
+    def test_order_of_passed_keys_has_no_effect(self):
+        def turned(value):
+            if isinstance(value, dict):
+                return {key: turned(value[key]) for key in reversed(list(value))}
+            if isinstance(value, tuple):
+                return tuple(turned(part) for part in value)
+            return [turned(part) for part in value] if isinstance(value, list) else value
+
+        def check(_, case):
+            other = {name: turned(value) for name, value in case["arguments"].items()}
+            self.assertEqual(content(case["call"](**other)), content(case["call"](**case["arguments"])))
+
+        self.each(check)
+
+    def test_tuples_in_the_place_of_lists(self):
+        def as_tuples(value):
+            if isinstance(value, dict):
+                return {key: as_tuples(value[key]) for key in value}
+            return tuple(as_tuples(part) for part in value) if isinstance(value, (list, tuple)) else value
+
+        def check(_, case):
+            other = {name: as_tuples(value) for name, value in case["arguments"].items()}
+            self.assertEqual(content(case["call"](**other)), content(case["call"](**case["arguments"])))
+
+        self.each(check)
+
+
+class Judges(unittest.TestCase):
+    def test_judges_take_any_value(self):
+        judges = [basics.is_day, basics.is_count, basics.is_rule, basics.is_name, basics.is_days, tables.is_table,
+                  tables.is_world, formulas.is_formula, formulas.is_chain, sayings.is_saying,
+                  lambda value: pictures.is_picture(value, cases.book()),
+                  lambda value: laid.is_break(value, cases.broken(), cases.book())]
+        loop = []
+        loop.append(loop)
+        knot = {}
+        knot["x"] = knot
+        nested = ("day", "x")
+        for _ in range(5000):
+            nested = ("add", 1, nested)
+        for value in ANYTHING + [loop, knot, (loop, loop), ("on", "a", loop), ({}, {"a": loop}), nested,
+                                 ("not", ("le", nested, nested)), 10 ** 400, "x" * 5000, list(range(5000))]:
+            for judge in judges:
+                self.assertIn(judge(value), (True, False))
+                self.assertIsInstance(judge(value), bool)
+
+    def test_a_book_in_the_place_of_a_tuple(self):
+        self.assertIsNone(raised(lambda: pictures.is_picture(cases.book(), cases.book())))
+
+
+if __name__ == "__main__":
+    unittest.main()

@@ -1,0 +1,117 @@
+"""Values that are none of the kinds that parameters ask for."""
+
+from leadrules.books import Book
+from leadrules.tables import Table
+
+X = ("day", "x")
+TABLE = Table([0, 2])
+
+NOT_DAYS = [True, False, None, "3", "", 3.0, [3], (3,), {}, {3: 3}, TABLE]
+NOT_COUNTS = NOT_DAYS + [-1, -10 ** 12]
+NOT_LENGTHS = NOT_COUNTS + [0]
+NOT_RULES = ["", "ab", "i", "A", "x", "1", " ", "a ", None, True, False, 0, 1, ["a"], ("a",), {"a": "a"}, b"a"]
+NOT_NAMES = ["", "pq", "o", "P", "a", "1", " ", "{", None, True, False, 0, 1, ["x"], ("x",), {"x": "x"}, b"x"]
+NOT_FORMULAS = [
+    None, True, 3, "x", "day", [], (), {}, ["day", "x"], ("day",), ("day", "a"), ("day", "x", "x"), ("day", ["x"]),
+    ("day", 1), ("num",), ("num", True), ("num", False), ("num", "1"), ("num", None), ("num", 1, 1), ("num", 1.0),
+    ("on", "a"), ("on", "x", X), ("on", X, "a"), ("on", "a", X, X), ("on", "a", ["day", "x"]), ("on", "a", 3),
+    ("on", "a", "x"), ("by", "i", X), ("by", "a", ("num", True)), ("til", True, X), ("til", "a", ()),
+    ("add", True, X), ("add", "1", X), ("add", 1), ("add", 1, X, X), ("add", None, X), ("add", 1, ("num", False)),
+    ("late", X), ("late", X, X, X), ("late", [X, X]), ("late", X, 3), ("soon", X, ["num", 1]), ("soon", X, ("soon", X)),
+    ("le", X, X), ("late", X, ("le", X, X)), ("DAY", "x"), ("", "x"), (1, "x"), (True, X), (("day",), "x"), (X,),
+    [("day", "x")], (["day"], "x"), ("and", X, X),
+]
+LE = ("le", X, ("num", 3))
+NOT_SAYINGS = [
+    None, True, 3, "le", [], (), {}, X, ("num", 1), ("le",), ("le", X), ("le", X, X, X), ["le", X, X], ("le", X, 3),
+    ("le", X, ["num", 1]), ("le", X, LE), ("le", LE, X), ("le", X, ("num", True)), ("and", LE), ("and", LE, LE, LE),
+    ("and", LE, X), ("and", X, LE), ("or", LE), ("or", LE, ["le", X, X]), ("not",), ("not", X), ("not", LE, LE),
+    ("not", ["le", X, X]), ("not", True), ("not", ("not", X)), ("nor", LE, LE), ("LE", X, X), (LE,), (LE, LE),
+    (1, LE), (True, X, X), (["not"], LE), ("on", "a", X), ("le", ("add", False, X), X),
+]
+NOT_DAY_DICTS = [
+    None, True, 3, "x", [], (), [("x", 1)], {"a": 1}, {"x": True}, {"x": False}, {"x": "1"}, {"x": None}, {"x": [1]},
+    {1: 1}, {True: 1}, {None: 1}, {("x",): 1}, {"": 1}, {"xy": 1}, {"x": 1, "a": 1}, {"x": 1, "y": True}, {"x": 1.0},
+]
+NOT_WORLDS = [
+    None, True, 3, "a", [], (), [("a", TABLE)], {"x": TABLE}, {"a": [0, 2]}, {"a": None}, {1: TABLE}, {True: TABLE},
+    {"a": TABLE, "x": TABLE}, {"a": TABLE, "b": [0]}, {("a",): TABLE}, {"": TABLE}, {"ab": TABLE}, {"a": {}},
+]
+NOT_TABLES = [
+    None, True, 3, "3", {}, {0: 1}, [], (), [True], [0, False], [0, "1"], [0, None], [[0]], [(0,)], [1, 0], [0, 3],
+    [0, 2, 1], [0, 0, 4], list(range(601)), [0] * 601, [0] * 599 + [601], [1.0], TABLE, [TABLE], {"a": TABLE},
+]
+NOT_TABLE_LISTS = [None, True, 3, "", TABLE, {}, [[0, 2]], [TABLE, None], [TABLE, [0]], [None], {"a": TABLE}, (3,)]
+NOT_KNOWN_ROWS = [
+    None, True, 3, "", [], (), {}, [(0,)], [(0, 1, 2)], [[0, 1]], [(0, True)], [(False, 0)], [(0, "1")], [(0, None)],
+    [(0, 1), None], [(0, 1), [4, 5]], (0, 1), [0, 1], [(0, 1)] * 61, [("a", 0, 1)], {(0, 1): True},
+]
+NOT_WOVEN_ROWS = [
+    None, True, 3, "", [], (), {}, [[]], [()], [X], [[X], []], [[X], None], [[X, 3]], [[X, ["day", "x"]]], X,
+    [[("late", X, X)]], [[("soon", X, X)]], [[("on", "a", ("late", X, X))]], [[("num", True)]], [[LE]], [[X], [LE]],
+    {0: [X]}, [{0: X}],
+]
+NOT_RULE_DICTS = [
+    None, True, 3, "a", [], (), [("a", "b")], {"x": "a"}, {"a": "x"}, {"a": None}, {"a": True}, {True: "a"}, {1: "a"},
+    {"a": "b", "b": "y"}, {"a": ["b"]}, {"": "a"}, {"a": ""}, {"a": "bc"}, {("a",): "b"},
+]
+NOT_NAME_DICTS = [
+    None, True, 3, "x", [], (), [("x", "y")], {"a": "x"}, {"x": "a"}, {"x": None}, {"x": True}, {True: "x"}, {1: "x"},
+    {"x": "y", "y": "b"}, {"x": ["y"]}, {"": "x"}, {"x": ""}, {"x": "yz"}, {("x",): "y"},
+]
+NOT_ROWS = [
+    None, True, 3, "a", [], (), {}, ("a", 0), ("a", 0, 1, 2), ["a", 0, 1], ("x", 0, 1), ("a", True, 1), ("a", 0, False),
+    ("a", "0", 1), ("a", 0, None), (0, 1), (True, 0, 1), ("", 0, 1), (0, "a", 1), ("a", 0.0, 1), ("a", [0], 1),
+]
+NOT_PROMISES = [
+    None, True, 3, "quick", [], (), {}, ("quick", "a"), ("quick", "a", "a"), ("quick", "a", "b", "c"),
+    ["quick", "a", "b"], ("quick", "a", "x"), ("quick", "x", "a"), ("quick", "a", None), ("quick", True, "a"),
+    ("lead", "a"), ("lead", "a", 1), ("lead", "a", None, None), ("lead", "a", True, None), ("lead", "a", None, False),
+    ("lead", "a", 1, True), ("lead", "a", "1", 2), ("lead", "a", 1, "2"), ("lead", "x", 1, 2), ("lead", "a", 1, 2, 3),
+    ["lead", "a", 1, 2], ("LEAD", "a", 1, 2), ("lead", ["a"], 1, 2), (1, "a", 1, 2), ("lead", "a", 1.0, 2),
+    ("lead", "a", "b"), ("quick", "a", 1, 2), (["quick"], "a", "b"), ("slow", "a", "b"),
+]
+# None of these has the form of a picture, whatever the book.
+NOT_PICTURES = [
+    None, True, 3, "", [], (), {}, ({},), ({}, {}, {}), [{}, {}], ({}, []), ([], {}), ({}, None), (None, {}),
+    ({"a": 1}, {}), ({"x": True}, {}), ({"x": "1"}, {}), ({True: 1}, {}), ({}, {"x": []}), ({}, {True: []}),
+    ({}, {1: []}), ({}, {"a": None}), ({}, {"a": {}}), ({}, {"a": (0, 1)}), ({}, {"a": [[0, 1]]}),
+    ({}, {"a": [(0,)]}), ({}, {"a": [(0, 1, 2)]}), ({}, {"a": [(0, True)]}), ({}, {"a": [(False, 1)]}),
+    ({}, {"a": [(0, "1")]}), ({}, {"a": [(0, None)]}), ({}, {"a": [(1, 1), (0, 0)]}), ({}, {"a": [(0, 0), (0, 1)]}),
+    ({}, {"a": [(0, 0), (0, 0)]}), ({}, {"a": [(0, 0)], "x": []}), ({}, {"a": [(0, 0)], "b": [3]}),
+]
+NOT_BOOKS = [None, 3, "book", [], {}, ([], []), TABLE]
+# For judges: values of all kinds.
+ANYTHING = (NOT_DAYS + NOT_RULES + NOT_NAMES + NOT_FORMULAS + NOT_SAYINGS + NOT_DAY_DICTS + NOT_WORLDS + NOT_TABLES
+            + NOT_ROWS + NOT_PROMISES + NOT_PICTURES + [Book([], []), object(), Table, print, b"", 10 ** 30, -10 ** 30])
+
+
+def raised(action):
+    """The error that an action raises; None without one."""
+    try:
+        action()
+    except Exception as error:
+        return error
+    return None
+
+
+def check_refused(test, error, value, action, attribute="value"):
+    """Check that an action raises just this error, with just this value as its attribute."""
+    found = raised(action)
+    test.assertIsNotNone(found, f"nothing raised, where {error.__name__} of {value!r} is due")
+    test.assertIs(found.__class__, error, f"{found!r} where {error.__name__} of {value!r} is due")
+    test.assertIs(getattr(found, attribute), value)
+
+
+def check_too_many(test, what, limit, action):
+    """Check that an action raises just TooMany of this."""
+    found = raised(action)
+    test.assertEqual(found.__class__.__name__, "TooMany", f"{found!r} where TooMany is due")
+    test.assertEqual((found.what, found.limit), (what, limit))
+
+
+def check_missing(test, error, attribute, missing, action):
+    """Check that an action raises just this error of what is missing."""
+    found = raised(action)
+    test.assertIs(found.__class__, error, f"{found!r} where {error.__name__} is due")
+    test.assertEqual(getattr(found, attribute), missing)
