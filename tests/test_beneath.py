@@ -73,6 +73,9 @@ class Leads(unittest.TestCase):
                          [["f", "d"], ["b", "c"], ["b"]])
         other = Book([], quick("ab", "bc", "ad") + [("lead", "c", None, 2), ("lead", "d", None, 2)])
         self.assertEqual(high_chain(other, "a"), ["a", "d"])
+        # From e the way through a is shorter than that through c and b.
+        two_ways = Book([], quick("ad", "bd", "cb", "ea", "ec") + [("lead", "e", 3, None), ("lead", "d", None, 5)])
+        self.assertEqual([low_chain(two_ways, "d"), high_chain(two_ways, "e")], [["e", "a", "d"], ["e", "a", "d"]])
         # An own lead with the low shows it alone, also in a ring.
         ring = Book([], quick("ab", "ba") + [("lead", "a", 3, 8), ("lead", "b", 3, None)])
         self.assertEqual([low_chain(ring, "a"), low_chain(ring, "b"), high_chain(ring, "b")], [["a"], ["b"], ["b", "a"]])

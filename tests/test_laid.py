@@ -247,6 +247,12 @@ class Trimmed(unittest.TestCase):
         self.assertEqual(list(trimmed(picture, saying, EMPTY)[0]), ["x", "y"])
         self.assertEqual(trimmed(({"x": 3}, {}), ("not", ("le", X, X)), EMPTY), ({"x": 3}, {}))
 
+    def test_answers_of_two_rules_are_left(self):
+        saying = ("or", ("le", ("on", "a", X), X), ("le", ("on", "b", X), X))
+        made = trimmed(({"x": 3}, {"b": [(0, 9), (1, 9)], "c": [(0, 0)], "a": [(0, 9)]}), saying, EMPTY)
+        self.assertEqual(made, ({"x": 3}, {"a": [(0, 9)], "b": [(1, 9)]}))
+        self.assertEqual(list(made[1]), ["a", "b"])
+
     def test_the_told_sequence(self):
         # Each of both would do, so the first one goes.
         saying = ("and", ("le", ("on", "a", X), X), ("le", ("on", "b", X), X))

@@ -236,8 +236,33 @@ class Judges(unittest.TestCase):
                 self.assertIn(judge(value), (True, False))
                 self.assertIsInstance(judge(value), bool)
 
-    def test_a_book_in_the_place_of_a_tuple(self):
-        self.assertIsNone(raised(lambda: pictures.is_picture(cases.book(), cases.book())))
+    def test_judges_do_not_ask_the_values_themselves(self):
+        class Loud:
+            """Whatever is done with it raises an error."""
+
+            def fail(self, *_):
+                raise RuntimeError("asked")
+
+            __eq__ = __ne__ = __lt__ = __le__ = __gt__ = __ge__ = __hash__ = __len__ = __iter__ = __bool__ = fail
+            __getitem__ = __contains__ = __add__ = __sub__ = __index__ = __str__ = __repr__ = fail
+
+        loud, x = Loud(), ("day", "x")
+        values = [loud, [loud], (loud,), {"x": loud}, {"a": loud}, (loud, "x"), ("day", loud), ("num", loud),
+                  ("on", loud, x), ("on", "a", loud), ("add", loud, x), ("late", x, loud), ("le", loud, x),
+                  ("and", ("le", x, x), loud), ("not", loud), ({}, loud), (loud, {}), ({"x": loud}, {}),
+                  ({}, {"a": loud}), ({}, {"a": [loud]}), ({}, {"a": [(loud, 1)]}), ({}, {"a": [(0, 1), (2, loud)]}),
+                  [0, loud], [loud, 0], ("lead", "a", loud, None), ("quick", "a", loud), ("a", loud, 0)]
+        judges = [basics.is_day, basics.is_count, basics.is_rule, basics.is_name, basics.is_days, tables.is_table,
+                  tables.is_world, formulas.is_formula, formulas.is_chain, sayings.is_saying,
+                  lambda value: pictures.is_picture(value, cases.book()),
+                  lambda value: laid.is_break(value, cases.broken(), cases.book())]
+        for judge in judges:
+            for value in values:
+                self.assertIs(judge(value), False)
+        for value in values:
+            self.assertEqual(raised(lambda: Book([value], [])).__class__.__name__, "InvalidRow")
+            self.assertEqual(raised(lambda: Book([], [value])).__class__.__name__, "InvalidPromise")
+            self.assertFalse(Table([0]) == value or Book([], []) == value)
 
 
 if __name__ == "__main__":

@@ -64,6 +64,16 @@ class Turned(unittest.TestCase):
                 self.assertEqual(slow.day_of(back, days, lists), slow.day_of(formula, days, lists))
                 self.assertEqual(slow.day_of(front, days, lists), slow.day_of(formula, days, lists))
 
+    def test_the_last_day_to_ask_one_rule_behind_another(self):
+        last = turned_down(("on", "b", ("on", "a", X)), "y")
+        self.assertEqual(last, ("til", "a", ("til", "b", Y)))
+        draw = random.Random(34)
+        for _ in range(40):
+            lists, day = drawn.lists(draw), draw.randint(-6, 6)
+            asked = slow.day_of(last, {"y": day}, lists)
+            served = [slow.on(lists["b"], slow.on(lists["a"], at)) for at in (asked, asked + 1)]
+            self.assertTrue(served[0] <= day < served[1])
+
     def test_what_has_no_turn(self):
         for call in (turned_down, turned_up):
             for told in (("num", 3), ("late", X, Y), ("on", "a", ("num", 3)), ("late", X, ("num", 0)),
