@@ -200,7 +200,7 @@ def _turned_day(formula, day, world, down):
         return day
     if word in ("late", "soon"):
         both = [_turned_day(part, day, world, down) for part in parts_of(formula)]
-        # Turned down late must be right for both parts; turned up one part is enough, but for a first day.
+        # A late is at most a day if both parts are, and at least a day if one is: the lesser day in both cases.
         return min(both) if word == "late" else max(both)
     return _turned_day(formula[2], _day_within(formula, day, world, down), world, down)
 
