@@ -5,7 +5,7 @@ from math import gcd
 from leadrules.basics import is_days, is_rule
 from leadrules.beneath import above, high, low, torn
 from leadrules.common import all_pieces, is_list, is_row_of_days, names_in, need_days
-from leadrules.errors import InvalidPicture, MissingRule
+from leadrules.errors import BrokenBook, InvalidPicture, MissingRule
 from leadrules.formulas import need_formula, need_known, reckoned
 from leadrules.sayings import need_saying
 from leadrules.tables import need_world
@@ -45,6 +45,17 @@ def clash_of(picture, book):
     spots = places_in(picture, book)
     against = _first_against_lead(spots, book)
     return _first_against_pair(spots, book) if against is None else against
+
+
+def is_kept(book):
+    """Whether some rules keep a book."""
+    return clash_of(({}, {}), book) is None
+
+
+def need_kept(book):
+    """Raise BrokenBook if no rules keep a book."""
+    if not is_kept(book):
+        raise BrokenBook()
 
 
 def places(picture, book):

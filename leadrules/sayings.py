@@ -85,7 +85,7 @@ def put(told, name, formula):
     need_name(name)
     need_formula(formula)
     need_few_pieces([told, formula])
-    changed = _with_leaf(told, ("day", name), formula)
+    changed = with_leaf(told, ("day", name), formula)
     need_few_pieces([changed])
     return changed
 
@@ -115,7 +115,7 @@ def pushed(saying):
 
 def contrary(saying):
     """What holds just if the saying does not, with not ahead of le alone."""
-    return _changed_by(_contrary_of, saying)
+    return _changed_by(contrary_of, saying)
 
 
 def positive(saying):
@@ -147,11 +147,11 @@ def _is_tuple_of_saying(value):
     return value[0] in SIZES_OF_SAYINGS and len(value) == SIZES_OF_SAYINGS[value[0]]
 
 
-def _with_leaf(told, leaf, formula):
+def with_leaf(told, leaf, formula):
     """What is told with a formula wherever a leaf stands."""
     if told == leaf:
         return formula
-    return rebuilt(told, [_with_leaf(part, leaf, formula) for part in parts_of(told)])
+    return rebuilt(told, [with_leaf(part, leaf, formula) for part in parts_of(told)])
 
 
 def _renamed(told, words, table):
@@ -176,17 +176,17 @@ def _pushed_in(saying):
     if saying[0] == "le":
         return saying
     if saying[0] == "not":
-        return _contrary_of(saying[1])
+        return contrary_of(saying[1])
     return (saying[0], _pushed_in(saying[1]), _pushed_in(saying[2]))
 
 
-def _contrary_of(saying):
+def contrary_of(saying):
     """The contrary of a saying: not ahead of it, pushed in."""
     if saying[0] == "le":
         return ("not", saying)
     if saying[0] == "not":
         return _pushed_in(saying[1])
-    return (CONTRARY_JOINTS[saying[0]], _contrary_of(saying[1]), _contrary_of(saying[2]))
+    return (CONTRARY_JOINTS[saying[0]], contrary_of(saying[1]), contrary_of(saying[2]))
 
 
 def _made_positive(saying):

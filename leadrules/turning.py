@@ -9,7 +9,7 @@ from leadrules.sayings import need_saying
 def turned_down(formula, name):
     """The formula of the last day of the formula's name, by the day of the told name."""
     _need_turned(formula, name)
-    turned = _turned(formula, ("day", name), True)
+    turned = turned_by(formula, ("day", name), True)
     need_few_pieces([turned])
     return turned
 
@@ -17,7 +17,7 @@ def turned_down(formula, name):
 def turned_up(formula, name):
     """The formula of the first day of the formula's name, by the day of the told name."""
     _need_turned(formula, name)
-    turned = _turned(formula, ("day", name), False)
+    turned = turned_by(formula, ("day", name), False)
     need_few_pieces([turned])
     return turned
 
@@ -44,14 +44,14 @@ def _need_turned(formula, name):
     need_few_pieces([formula])
 
 
-def _turned(formula, goal, down):
+def turned_by(formula, goal, down):
     """The formula turned down, or up, by a goal, which is a formula too."""
     if formula[0] == "day":
         return goal
     if formula[0] in ("late", "soon"):
         word = "soon" if formula[0] == "late" else "late"
-        return (word, _turned(formula[1], goal, down), _turned(formula[2], goal, down))
-    return _turned(formula[2], _goal_within(formula, goal, down), down)
+        return (word, turned_by(formula[1], goal, down), turned_by(formula[2], goal, down))
+    return turned_by(formula[2], _goal_within(formula, goal, down), down)
 
 
 def _goal_within(formula, goal, down):

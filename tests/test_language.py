@@ -10,7 +10,8 @@ import warnings
 from pathlib import Path
 
 PACKAGE = Path(__file__).resolve().parent.parent / "leadrules"
-LIBRARY = {"math": {"gcd", "lcm", "isqrt", "comb", "perm", "factorial"}}
+LIBRARY = {"math": {"gcd", "lcm", "isqrt", "comb", "perm", "factorial"},
+           "itertools": {"product", "combinations", "permutations"}}
 BUILTINS = set("""len range enumerate zip min max sum abs sorted reversed int str bool list tuple dict set isinstance
  ord repr any all divmod map iter next Exception ValueError TypeError KeyError IndexError LookupError ZeroDivisionError
  ArithmeticError OverflowError RuntimeError NotImplementedError AttributeError StopIteration NotImplemented property
@@ -24,10 +25,12 @@ BARRED = set("""register mro elements open input law version_info with_traceback
  methodcaller os quit setattr vars sys format format_map _cold _outside _record""".split())
 WORDS = re.compile(r"\b(type|typing|typing_extensions|enum|Enum|IntEnum|StrEnum|Flag|IntFlag|Generic|Protocol|ABC|ABCMeta"
                    r"|namedtuple|NamedTuple|TypedDict|TYPE_CHECKING|abstractmethod)\b|dataclass|overload|contextmanager")
+# A doctest that ran ahead in the same process leaves its last value as _ there.
+OF_PYTHON = set(dir(builtins)) - {"_"}
 STATEMENTS = (ast.Assign, ast.AugAssign, ast.If, ast.While, ast.For, ast.Return, ast.Break, ast.Continue, ast.Pass,
               ast.Raise, ast.Assert, ast.Delete, ast.Expr, ast.FunctionDef, ast.ClassDef, ast.ImportFrom)
 BARRED_NODES = (ast.Lambda, ast.GeneratorExp, ast.Yield, ast.YieldFrom, ast.Try, ast.With, ast.Global, ast.Nonlocal,
-                ast.Await, ast.NamedExpr, ast.Starred, ast.AnnAssign, ast.Match, ast.Import, ast.Div, ast.Set)
+                ast.Await, ast.NamedExpr, ast.AnnAssign, ast.Match, ast.Import, ast.Div, ast.Set)
 MODIFYING = {"append", "clear", "extend", "insert", "pop", "remove", "reverse", "setdefault", "update"}
 
 
@@ -133,10 +136,16 @@ class Language(unittest.TestCase):
 
     def test_statements_and_expressions(self):
         def check(path, text, tree):
+            # A star stands in a call of zip alone, over a name or an attribute off one.
+            starred = [call.args[0] for call in ast.walk(tree) if isinstance(call, ast.Call) and call.args
+                       and getattr(call.func, "id", None) == "zip" and isinstance(call.args[0], ast.Starred)
+                       and re.fullmatch(r"\*\w+(\.\w+)?", ast.unparse(call.args[0]))]
             for node in ast.walk(tree):
                 self.assertNotIsInstance(node, BARRED_NODES)
                 if isinstance(node, ast.stmt):
                     self.assertIsInstance(node, STATEMENTS)
+                if isinstance(node, ast.Starred):
+                    self.assertIn(node, starred)
                 if isinstance(node, ast.Constant):
                     self.assertNotIsInstance(node.value, (float, complex, bytes))
                     self.assertNotIn("%", node.value if isinstance(node.value, str) else "")
@@ -158,10 +167,10 @@ class Language(unittest.TestCase):
                     if node.name.startswith("__"):
                         self.assertIn(node.name, DOUBLE)
                     for name in assigned(node):
-                        self.assertFalse(name in classes | imports | functions | BARRED | set(dir(builtins)), name)
+                        self.assertFalse(name in classes | imports | functions | BARRED | OF_PYTHON, name)
                         self.assertFalse(name.startswith("__"))
                 if isinstance(node, (ast.FunctionDef, ast.ClassDef)):
-                    self.assertFalse(node.name in BARRED | set(dir(builtins)))
+                    self.assertFalse(node.name in BARRED | OF_PYTHON)
                     self.assertNotRegex(node.name, r"^_(wall|pe_|dcw_|enum_|cm_|twin_re_|lay_|law_|stub_|sre)")
             tokens = tokenize.generate_tokens(io.StringIO(text).readline)
             code = " ".join(token.string for token in tokens if token.type not in (tokenize.COMMENT, tokenize.STRING))
@@ -175,7 +184,7 @@ class Language(unittest.TestCase):
 
         def check(path, text, tree):
             for node in ast.walk(tree):
-                if isinstance(node, ast.Name) and node.id in dir(builtins):
+                if isinstance(node, ast.Name) and node.id in OF_PYTHON:
                     self.assertIn(node.id, BUILTINS)
                 if isinstance(node, ast.Call) and isinstance(node.func, ast.Attribute):
                     self.assertIn(node.func.attr, METHODS | own)

@@ -4,10 +4,11 @@ import copy
 import inspect
 import unittest
 
-from leadrules import basics, books, formulas, laid, pictures, sayings, tables
+from leadrules import (basics, books, bounds, daylists, formulas, laid, leastways, pictures, sayings, slack, tables, trees,
+                       verdicts)
 from leadrules.books import Book
 from leadrules.tables import Table
-from tests import cases
+from tests import cases, proof_cases
 from tests.wrong import ANYTHING, check_refused, raised
 
 # Errors of parameters that hang on another parameter, so that one wrong value is due ahead of it.
@@ -39,6 +40,15 @@ INTERFACE = {
             " laid_til(picture,book,rule,day) laid_days(picture,book,rule,day,many)"
             " laid_value(picture,book,formula) laid_holds(picture,book,saying) is_break(value,saying,book)"
             " trimmed(picture,saying,book)",
+    "daylists": "days_of(saying) places_of(saying,book)",
+    "bounds": "bounds_of(saying,book) opened(saying) pair_ways(place,other_place) cross_ways(place,other_place)",
+    "leastways": "least_days(many,bounds) are_kept(bounds,value) ring_of(many,bounds) is_ring(bounds,value)",
+    "trees": "tree(saying,book) is_tree(value,saying,book) size(paper) rings(paper) is_spare(paper,saying,book)"
+             " shorter(paper,saying,book)",
+    "verdicts": "verdict(saying,book) broken(saying,book)",
+    "slack": "slack_saying(first,second,number) least_slack(first,second,book) span(first,second,book)"
+             " slack_tree(first,second,book) farthest(first,second,book) is_farthest(value,first,second,book)"
+             " slack_table(formulas,book)",
 }
 TABLE_METHODS = ("days() asked_rows() on(day) by(day) til(day) answers(day,count) is_served(day) leads() mean_lead()"
                  " fixed_days() moved(day) asked_later(day) by_table() til_table() stretched(count) shortest()"
@@ -90,10 +100,24 @@ def dicts_in(value):
     return found
 
 
+def judges():
+    """All judges, told the parameters behind value."""
+    saying, book, first, second = proof_cases.so(), proof_cases.book(), proof_cases.SERVED, cases.X
+    return [basics.is_day, basics.is_count, basics.is_rule, basics.is_name, basics.is_days, tables.is_table,
+            tables.is_world, formulas.is_formula, formulas.is_chain, sayings.is_saying,
+            lambda value: pictures.is_picture(value, cases.book()),
+            lambda value: laid.is_break(value, cases.broken(), cases.book()),
+            lambda value: leastways.are_kept([(0, 1, 3)], value), lambda value: leastways.is_ring([(0, 0, -1)], value),
+            lambda value: trees.is_tree(value, saying, book),
+            lambda value: slack.is_farthest(value, first, second, book)]
+
+
 class Names(unittest.TestCase):
     def test_functions_stand_in_their_files(self):
-        for module in (basics, books, formulas, laid, pictures, sayings, tables, cases.joined, cases.turning,
-                       cases.beneath):
+        modules = (basics, books, formulas, laid, pictures, sayings, tables, cases.joined, cases.turning, cases.beneath,
+                   daylists, bounds, leastways, trees, verdicts, slack)
+        self.assertEqual(sorted(module.__name__.split(".")[1] for module in modules), sorted(INTERFACE))
+        for module in modules:
             short = module.__name__.split(".")[1]
             for name, parameters in calls(INTERFACE[short]):
                 with self.subTest(module=short, name=name):
@@ -121,7 +145,7 @@ class Names(unittest.TestCase):
                 self.assertIn(name, vars(owner))
 
     def test_each_function_has_a_case(self):
-        named = {case["call"].__name__ for case in cases.function_cases()}
+        named = {case["call"].__name__ for case in cases.function_cases() + proof_cases.all_cases()}
         for text in INTERFACE.values():
             for name, _ in calls(text):
                 self.assertIn(name, named)
@@ -130,7 +154,7 @@ class Names(unittest.TestCase):
 class Alike(unittest.TestCase):
     def each(self, check):
         """Make a check of each case."""
-        for case in cases.all_cases():
+        for case in cases.all_cases() + proof_cases.all_cases():
             label = getattr(case["call"], "__name__", "call")
             with self.subTest(call=label):
                 check(label, case)
@@ -219,10 +243,6 @@ class Alike(unittest.TestCase):
 
 class Judges(unittest.TestCase):
     def test_judges_take_any_value(self):
-        judges = [basics.is_day, basics.is_count, basics.is_rule, basics.is_name, basics.is_days, tables.is_table,
-                  tables.is_world, formulas.is_formula, formulas.is_chain, sayings.is_saying,
-                  lambda value: pictures.is_picture(value, cases.book()),
-                  lambda value: laid.is_break(value, cases.broken(), cases.book())]
         loop = []
         loop.append(loop)
         knot = {}
@@ -232,7 +252,7 @@ class Judges(unittest.TestCase):
             nested = ("add", 1, nested)
         for value in ANYTHING + [loop, knot, (loop, loop), ("on", "a", loop), ({}, {"a": loop}), nested,
                                  ("not", ("le", nested, nested)), 10 ** 400, "x" * 5000, list(range(5000))]:
-            for judge in judges:
+            for judge in judges():
                 self.assertIn(judge(value), (True, False))
                 self.assertIsInstance(judge(value), bool)
 
@@ -252,11 +272,7 @@ class Judges(unittest.TestCase):
                   ("and", ("le", x, x), loud), ("not", loud), ({}, loud), (loud, {}), ({"x": loud}, {}),
                   ({}, {"a": loud}), ({}, {"a": [loud]}), ({}, {"a": [(loud, 1)]}), ({}, {"a": [(0, 1), (2, loud)]}),
                   [0, loud], [loud, 0], ("lead", "a", loud, None), ("quick", "a", loud), ("a", loud, 0)]
-        judges = [basics.is_day, basics.is_count, basics.is_rule, basics.is_name, basics.is_days, tables.is_table,
-                  tables.is_world, formulas.is_formula, formulas.is_chain, sayings.is_saying,
-                  lambda value: pictures.is_picture(value, cases.book()),
-                  lambda value: laid.is_break(value, cases.broken(), cases.book())]
-        for judge in judges:
+        for judge in judges():
             for value in values:
                 self.assertIs(judge(value), False)
         for value in values:

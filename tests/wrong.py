@@ -80,10 +80,59 @@ NOT_PICTURES = [
     ({}, {"a": [(0, "1")]}), ({}, {"a": [(0, None)]}), ({}, {"a": [(1, 1), (0, 0)]}), ({}, {"a": [(0, 0), (0, 1)]}),
     ({}, {"a": [(0, 0), (0, 0)]}), ({}, {"a": [(0, 0)], "x": []}), ({}, {"a": [(0, 0)], "b": [3]}),
 ]
+NOT_BOUNDS = [
+    None, True, 3, "", {}, (0, 1, 2), [0, 1, 2], [[0, 1, 2]], [(0, 1)], [(0, 1, 2, 3)], [()], [(True, 1, 2)],
+    [(0, False, 2)], [(0, 1, True)], [(0, 1, None)], [(0, 1, "2")], [(-1, 1, 2)], [(0, -1, 2)], [(0, 1, 2.0)],
+    [("a", 1, 2)], [(0, 1, 2), None], [(0, 1, 2), [0, 1, 2]], [(0, 1, 2), (0, 1, False)], {(0, 1, 2): True},
+]
+NOT_PLACES = [
+    None, True, 3, "a", "", [], (), {}, ("a", 1, 0, 2), ("a", 1, 0, 2, 0, 0), ["a", 1, 0, 2, 0], ("x", 1, 0, 2, 0),
+    ("ab", 1, 0, 2, 0), (1, 1, 0, 2, 0), (None, 1, 0, 2, 0), ("a", -1, 0, 2, 0), ("a", 1, 0, -2, 0),
+    ("a", True, 0, 2, 0), ("a", 1, False, 2, 0), ("a", 1, 0, True, 0), ("a", 1, 0, 2, False), ("a", "1", 0, 2, 0),
+    ("a", 1, None, 2, 0), ("a", 1, 0, [2], 0), ("a", 1, 0, 2, 0.0), (["a"], 1, 0, 2, 0),
+]
+RING = ("ring", [(0, 0, -1)])
+# None of these is formed like a tree.
+NOT_TREES = [
+    None, True, 3, "ring", "", [], (), {}, ("ring",), ["ring", [(0, 0, -1)]], ("ring", None),
+    ("ring", (0, 0, -1)), ("ring", [[0, 0, -1]]), ("ring", [(0, 0)]), ("ring", [(0, 0, -1, 1)]),
+    ("ring", [(True, 0, -1)]), ("ring", [(0, False, -1)]), ("ring", [(0, 0, True)]), ("ring", [(-1, 0, 0)]),
+    ("ring", [(0, 0, "1")]), ("ring", [(0, 0, -1)], []), ("ring", [(0, 0, -1)], RING), ("ring", {}), ("or",),
+    ("or", RING), ("or", RING, RING, RING), ("or", 1, RING, RING), ("or", RING, ["ring", []]), ("or", RING, None),
+    ("late", RING, RING), ("late", 3, RING), ("late", 3, RING, RING, RING), ("late", True, RING, RING),
+    ("late", -1, RING, RING), ("late", "3", RING, RING), ("late", None, RING, RING), ("soon", RING, RING),
+    ("soon", False, RING, RING), ("soon", 3, RING, ("ring", [None])), ("pair", 0, 1, RING, RING),
+    ("pair", 0, RING, RING, RING), ("pair", False, 1, RING, RING, RING), ("pair", 0, True, RING, RING, RING),
+    ("pair", 0, -1, RING, RING, RING), ("pair", 0, 1, RING, RING, RING, RING), ("cross", 0, 1, RING),
+    ("cross", 0, 1, RING, RING, RING), ("cross", True, 2, RING, RING), ("cross", 0, 1.0, RING, RING),
+    ("cross", 0, 1, RING, ()), ("RING", [(0, 0, -1)]), ("legs", [[(0, 0, -1)]]), ("rest", 1, [RING]), (1, RING, RING),
+    (True, RING, RING), (["or"], RING, RING), (RING, RING), ("or", RING, ("late", 3, RING, ("late", True, RING, RING))),
+]
+NOT_FORMULA_LISTS = [None, True, 3, "", X, {}, {0: X}, [None], [X, None], [X, ["day", "x"]], [("num", True)], [[X]],
+                     [X, ("le", X, X)], (X, 3), [("add", False, X)], "x", [X, X, X, X, None]]
+NOT_PAIRS = [None, True, 3, "", [], (), {}, [0, 1], (0,), (0, 1, 2), (True, 1), (0, False), (-1, 0), (0, -1), (0, None),
+             ("0", 1), (0, 1.0), ((0, 1),), ([0], 1)]
+NOT_ROW_LISTS = [None, True, 3, "", {}, ("a", 0, 1), ["a", 0, 1], [None], [("a", 0)], [("a", 0, True)],
+                 [("a", False, 1)], [["a", 0, 1]], [("x", 0, 1)], [("a", 0, 1), None], (("a", 0, 1), ("a", 0, None)),
+                 {("a", 0, 1): True}, [("a", 0, 1, 2)]]
+STAND = ({"x": 0}, {"a": [(0, 0), (3, 4)]})
+# None of these is two stands.
+NOT_STANDS = [
+    None, True, 3, "", [], (), {}, (STAND,), (STAND, STAND, STAND), [STAND, STAND], (STAND, None), (None, STAND),
+    (STAND, ({}, {"a": [(0, 0), (3, 4)]})), (STAND, ({"y": 0}, {"a": [(0, 0), (3, 4)]})),
+    (STAND, ({"x": 0, "y": 1}, {"a": [(0, 0), (3, 4)]})), (STAND, ({"x": 0}, {})),
+    (STAND, ({"x": 0}, {"b": [(0, 0), (3, 4)]})),
+    (STAND, ({"x": 0}, {"a": [(0, 0), (3, 4)], "b": []})), (STAND, ({"x": 0}, {"a": [(0, 0)]})),
+    (STAND, ({"x": 0}, {"a": [(0, 0), (3, 4), (5, 6)]})), (STAND, ({"x": 0}, {"a": [(0, 0), (2, 4)]})),
+    (STAND, ({"x": 0}, {"a": [(1, 0), (3, 4)]})), (STAND, ({"x": True}, {"a": [(0, 0), (3, 4)]})),
+    (STAND, ({"x": 0}, {"a": [(0, 0), (3, True)]})), (({"x": False}, {}), ({"x": 0}, {})),
+    (STAND, [{"x": 0}, {"a": [(0, 0), (3, 4)]}]), (STAND, ({"x": 0}, {"a": [[0, 0], [3, 4]]})),
+]
 NOT_BOOKS = [None, 3, "book", [], {}, ([], []), TABLE]
 # For judges: values of all kinds.
 ANYTHING = (NOT_DAYS + NOT_RULES + NOT_NAMES + NOT_FORMULAS + NOT_SAYINGS + NOT_DAY_DICTS + NOT_WORLDS + NOT_TABLES
-            + NOT_ROWS + NOT_PROMISES + NOT_PICTURES + [Book([], []), object(), Table, print, b"", 10 ** 30, -10 ** 30])
+            + NOT_ROWS + NOT_PROMISES + NOT_PICTURES + NOT_BOUNDS + NOT_PLACES + NOT_TREES + NOT_FORMULA_LISTS
+            + NOT_PAIRS + NOT_ROW_LISTS + NOT_STANDS + [Book([], []), object(), Table, print, b"", 10 ** 30, -10 ** 30])
 
 
 def raised(action):
