@@ -1,7 +1,7 @@
 """All bounds that follow from some, kept as one by one they come in force."""
 
 # More than any bound that comes to be reckoned with: no bound at all.
-FAR = 1_000_000_000_000_000_000_000_000_000_000
+FAR = 1000000000000000000000000000000
 
 
 class Closure:

@@ -77,7 +77,8 @@ class Problem:
             if formula[0] == "day":
                 named[formula[1]] = days[number]
         for rule, day, shift, answer, answer_shift in self.spots[:self.spots_of_saying]:
-            asked.setdefault(rule, {})[days[day] + shift] = days[answer] + answer_shift
+            served = asked.setdefault(rule, {})
+            served[days[day] + shift] = days[answer] + answer_shift
         answers = {rule: [(day, asked[rule][day]) for day in sorted(asked[rule])] for rule in sorted(asked)}
         return ({name: named[name] for name in sorted(named)}, answers)
 

@@ -124,7 +124,8 @@ class Search:
             if not heads:
                 self.found, self.closure = days, case.closure
                 return None
-            unkept.update(heads)
+            for head, ways in heads.items():
+                unkept[head] = ways
         best, place = None, None
         for head, ways in unkept.items():
             admitted = len([bounds for bounds, _ in ways if case.closure.admits(bounds)])

@@ -64,9 +64,9 @@ def slack_table(formulas, book):
     need_kept(book)
     if len(formulas) > MOST_FORMULAS:
         raise TooMany("formulas", MOST_FORMULAS)
-    for first in formulas:
-        for second in formulas:
-            need_few_for_slack(first, second)
+    for formula in formulas:
+        for other in formulas:
+            need_few_for_slack(formula, other)
     return [[Farthest(first, second, book).slack for second in formulas] for first in formulas]
 
 
