@@ -4,11 +4,11 @@ import copy
 import inspect
 import unittest
 
-from leadrules import (basics, books, bounds, daylists, formulas, laid, leastways, pictures, sayings, slack, tables, trees,
-                       verdicts)
+from leadrules import (answers, basics, books, bounds, daylists, either, formulas, laid, leastways, loose, pictures,
+                       promised, reasons, sayings, slack, sure, tables, trees, verdicts)
 from leadrules.books import Book
 from leadrules.tables import Table
-from tests import cases, proof_cases
+from tests import cases, proof_cases, sure_cases
 from tests.wrong import ANYTHING, check_refused, raised
 
 # Errors of parameters that hang on another parameter, so that one wrong value is due ahead of it.
@@ -49,12 +49,33 @@ INTERFACE = {
     "slack": "slack_saying(first,second,number) least_slack(first,second,book) span(first,second,book)"
              " slack_tree(first,second,book) farthest(first,second,book) is_farthest(value,first,second,book)"
              " slack_table(formulas,book)",
+    "loose": "loose(first,second,book) is_loose(value,first,second,book) stand_of(stands,many) tracks_of(stands)"
+             " is_steady(value,book) reading(stands,book,formula)",
+    "either": "either_saying(first,second,third,fourth,pair) either_slack(first,second,third,fourth,book,most)"
+              " either_breaks(first,second,third,fourth,book,most)",
+    "sure": "is_broken(book) broken_paper(book) is_broken_paper(value,book) put_in(told,days)"
+            " sureness(saying,book,days) sure_paper(saying,book,days) is_sure_paper(value,saying,book,days)"
+            " foretold(row,saying,book,days)",
+    "answers": "least_answer(formula,book,days) greatest_answer(formula,book,days) giving(formula,day,book,days)"
+               " is_giving(value,formula,day,book,days) possible(formula,day,book,days)"
+               " possible_days(formula,day,many,book,days) last_sure(formula,day,book) last_hope(formula,day,book)",
+    "reasons": "enough(rows,saying,book) first_reason(saying,book) all_reasons(saying,book)"
+               " is_reason(value,saying,book) needed_rows(saying,book) reason_paper(saying,book)"
+               " is_reason_paper(value,saying,book) first_quarrel(book) is_quarrel(value,book)"
+               " first_cause(saying,book) is_cause(value,saying,book)",
+    "promised": "follows(promise,book) follow_saying(promise) needless(book) slim(book) sure_lead(book,rule)"
+                " quicker(book)",
 }
 TABLE_METHODS = ("days() asked_rows() on(day) by(day) til(day) answers(day,count) is_served(day) leads() mean_lead()"
                  " fixed_days() moved(day) asked_later(day) by_table() til_table() stretched(count) shortest()"
                  " is_same(other_table) __call__(day) __init__(days)")
 BOOK_METHODS = ("with_row(row) without_row(row) with_promise(promise) without_promise(promise) joined(book)"
                 " rows_of(rule) __init__(log,promises)")
+
+
+def later_cases():
+    """The cases of the functions that tell papers."""
+    return proof_cases.all_cases() + sure_cases.all_cases()
 
 
 def calls(text):
@@ -109,13 +130,21 @@ def judges():
             lambda value: laid.is_break(value, cases.broken(), cases.book()),
             lambda value: leastways.are_kept([(0, 1, 3)], value), lambda value: leastways.is_ring([(0, 0, -1)], value),
             lambda value: trees.is_tree(value, saying, book),
-            lambda value: slack.is_farthest(value, first, second, book)]
+            lambda value: slack.is_farthest(value, first, second, book),
+            lambda value: loose.is_loose(value, first, second, book), lambda value: loose.is_steady(value, book),
+            lambda value: sure.is_broken_paper(value, sure_cases.broken_book()),
+            lambda value: sure.is_sure_paper(value, saying, book, {"x": 3}),
+            lambda value: answers.is_giving(value, first, 8, book, {"x": 4}),
+            lambda value: reasons.is_reason(value, saying, book),
+            lambda value: reasons.is_reason_paper(value, saying, book),
+            lambda value: reasons.is_quarrel(value, sure_cases.broken_book()),
+            lambda value: reasons.is_cause(value, saying, book)]
 
 
 class Names(unittest.TestCase):
     def test_functions_stand_in_their_files(self):
         modules = (basics, books, formulas, laid, pictures, sayings, tables, cases.joined, cases.turning, cases.beneath,
-                   daylists, bounds, leastways, trees, verdicts, slack)
+                   daylists, bounds, leastways, trees, verdicts, slack, loose, either, sure, answers, reasons, promised)
         self.assertEqual(sorted(module.__name__.split(".")[1] for module in modules), sorted(INTERFACE))
         for module in modules:
             short = module.__name__.split(".")[1]
@@ -145,7 +174,7 @@ class Names(unittest.TestCase):
                 self.assertIn(name, vars(owner))
 
     def test_each_function_has_a_case(self):
-        named = {case["call"].__name__ for case in cases.function_cases() + proof_cases.all_cases()}
+        named = {case["call"].__name__ for case in cases.function_cases() + later_cases()}
         for text in INTERFACE.values():
             for name, _ in calls(text):
                 self.assertIn(name, named)
@@ -154,7 +183,7 @@ class Names(unittest.TestCase):
 class Alike(unittest.TestCase):
     def each(self, check):
         """Make a check of each case."""
-        for case in cases.all_cases() + proof_cases.all_cases():
+        for case in cases.all_cases() + later_cases():
             label = getattr(case["call"], "__name__", "call")
             with self.subTest(call=label):
                 check(label, case)
