@@ -11,9 +11,9 @@ class Closure:
     """
 
     def __init__(self, many):
-        self._most = [[FAR] * many for _ in range(many)]
+        self._most = [[FAR] * many for day in range(many)]
         # The bound, with its mark, with which the way of bounds from one day to another one begins.
-        self._heads = [[None] * many for _ in range(many)]
+        self._heads = [[None] * many for day in range(many)]
         for day in range(many):
             self._most[day][day] = 0
 

@@ -128,7 +128,7 @@ class Search:
                 unkept[head] = ways
         best, place = None, None
         for head, ways in unkept.items():
-            admitted = len([bounds for bounds, _ in ways if case.closure.admits(bounds)])
+            admitted = len([way for way in ways if case.closure.admits(way[0])])
             other = (min(admitted, 2), -self._used.get(head, 0), admitted)
             if best is None or other < place:
                 best, place = head, other
@@ -158,7 +158,7 @@ def ring_part(ring):
     needs = 0
     for _, mark in ring:
         needs = needs | mark
-    return (("ring", [bound for bound, _ in ring]), needs)
+    return (("ring", [told[0] for told in ring]), needs)
 
 
 def begun(problem):

@@ -60,6 +60,13 @@ class Broken(unittest.TestCase):
             self.assertIs(is_broken_paper(paper, EMPTY), False)
             self.assertEqual(verdict(NEVER, book), "all")
 
+    def test_the_saying_that_papers_are_of(self):
+        """Rings of the bounds of ("num", 1), day 1 of the saying, are in force; those of another number are not."""
+        torn = Book([], [("lead", "a", 3, 2)])
+        for number in range(-1, 4):
+            ring = [(0, 0, -1), (0, 1, -number), (1, 0, number)]
+            self.assertIs(is_broken_paper(("ring", ring), torn), number == 1)
+
     def test_kept_books(self):
         for book in (EMPTY, Book([("a", 0, 5), ("a", 1, 5)], [("lead", "a", 4, 5)]), Book([], [("quick", "a", "b"),
                      ("quick", "b", "a")]), Book([("a", 0, 9), ("b", -1, 8)], [("quick", "a", "b")])):
