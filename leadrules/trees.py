@@ -41,12 +41,7 @@ def is_spare(paper, saying, book):
 
 def shorter(paper, saying, book):
     """A spare tree, of at most as many nodes as the one that is passed."""
-    place = _top_of_tree(paper, saying, book)
-    made = _without_needless(place, paper)
-    # A tree in the place of one of an or's ways may make another split needless.
-    while not _is_spare_at(place, made):
-        made = _without_needless(place, made)
-    return made
+    return _without_needless(_top_of_tree(paper, saying, book), paper)
 
 
 def _need_formed(value):
@@ -86,6 +81,8 @@ def _nodes_and_places(place, paper):
 
 def _without_needless(place, paper):
     """A tree, right at a place, with one of the trees within in the place of each needless split."""
+    # Once is enough: what stands in the place of a split has fewer bounds in force, so nothing within it becomes
+    # right; and an or in it would not be right there, or was needless ahead of that.
     made = []
     # Those within a node come ahead of it so, the last one first: they are the last ones made.
     for node, at in _nodes_and_places(place, paper)[::-1]:

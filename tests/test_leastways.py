@@ -95,6 +95,13 @@ class Rings(unittest.TestCase):
                      [(0, 1, -1), (1, 0, -1)], [(0, 1, -1), (2, 2, -1)], {(2, 2, -1): 1}, "ring", None):
             self.assertIs(is_ring(bounds, ring), False)
 
+    def test_rings_open_at_one_spot(self):
+        bounds = [(0, 1, -1), (1, 0, 0), (1, 2, 3), (2, 1, -4), (2, 2, -1)]
+        for ring in ([(0, 1, -1), (1, 2, 3), (2, 1, -4)], [(1, 2, 3), (2, 1, -4), (1, 0, 0)],
+                     [(0, 1, -1), (1, 0, 0), (2, 2, -1)], [(2, 2, -1), (0, 1, -1), (1, 0, 0)],
+                     [(0, 1, -1), (0, 1, -1), (1, 0, 0)], [(1, 2, 3), (1, 0, 0), (2, 1, -4)]):
+            self.assertIs(is_ring(bounds, ring), False)
+
     def test_sums_that_are_not_below_zero(self):
         bounds = [(0, 1, -1), (1, 0, 1), (0, 0, 0), (1, 1, -1)]
         for ring in ([(0, 1, -1), (1, 0, 1)], [(0, 0, 0)]):

@@ -352,7 +352,9 @@ class Loose(unittest.TestCase):
         self.assertIs(is_loose(pair, X, served, EMPTY), False)
         self.assertIs(is_loose(pair, served, served, EMPTY), False)
         self.assertIs(is_loose(pair, served, Y, EMPTY), False)
+        # The one formula or the other has no reading.
         self.assertIs(is_loose(pair, served, on("b", X), EMPTY), False)
+        self.assertIs(is_loose(pair, on("b", X), served, EMPTY), False)
         # Not steady beside these books, or no rules keep them.
         for book in (Book([], [("lead", "a", 1, 3)]), Book([], [("lead", "a", None, 90)]), Book([("a", 2, 3)], []),
                      BROKEN):
@@ -390,6 +392,19 @@ class Loose(unittest.TestCase):
             self.assertEqual(later, tracks[0][0] - tracks[1][0] + 1000 * (tracks[0][1] - tracks[1][1]))
             self.assertIs(is_picture(picture, book), True)
         self.assertTrue(min(found.values()) > 60, found)
+
+    def test_days_that_were_returned(self):
+        """Days far on, at stands made of stands that were returned, are as good as others."""
+        served = on("a", X)
+        far = stand_of(loose(served, X, EMPTY), 10 ** 12)
+        for power in (24, 48, 96):
+            far = stand_of((stand_of(loose(served, X, EMPTY), 0), far), far[1]["a"][0][1])
+            asked, day = far[1]["a"][0]
+            self.assertEqual((asked, day), (0, 10 ** power))
+            book = Book([("a", asked, day)], [])
+            self.assertEqual(least_slack(on("a", ("num", -1)), ("num", 5), book), day - 5)
+            self.assertEqual(least_slack(("num", 5), on("a", ("num", 1)), book), 5 - day)
+            self.assertIsNone(least_slack(on("a", ("num", 1)), ("num", day), book))
 
     def test_refused(self):
         check_broken(self, lambda: loose(X, Y, BROKEN))

@@ -66,6 +66,9 @@ class Broken(unittest.TestCase):
         for number in range(-1, 4):
             ring = [(0, 0, -1), (0, 1, -number), (1, 0, number)]
             self.assertIs(is_broken_paper(("ring", ring), torn), number == 1)
+        # ("num", 0) is day 0, so there is no day 2.
+        for number in range(-2, 3):
+            self.assertIs(is_broken_paper(("ring", [(0, 0, -1), (0, 2, -number), (2, 0, number)]), torn), False)
 
     def test_kept_books(self):
         for book in (EMPTY, Book([("a", 0, 5), ("a", 1, 5)], [("lead", "a", 4, 5)]), Book([], [("quick", "a", "b"),

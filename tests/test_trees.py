@@ -6,6 +6,7 @@ import unittest
 from leadrules.books import Book
 from leadrules.daylists import days_of, places_of
 from leadrules.errors import InvalidSaying, InvalidTree
+from leadrules.leastways import ring_of
 from leadrules.trees import is_spare, is_tree, rings, shorter, size, tree
 from tests import drawn, known_books, slow, slowtrees, wrong
 from tests.test_bounds import many_les
@@ -149,6 +150,11 @@ class Judge(unittest.TestCase):
         self.assertEqual(places_of(saying, EMPTY), [("a", 1, 0, 2, 0), ("a", 3, 0, 4, 0)])
         for i, j in ((1, 0), (0, 0), (1, 1), (0, 2), (2, 3), (0, 10 ** 12)):
             self.assertIs(is_tree(("pair", i, j) + paper[3:], saying, EMPTY), False)
+        # The ways of these would be right, but i is not less than j.
+        self.assertIs(is_tree(("pair", 1, 0) + paper[:2:-1], saying, EMPTY), False)
+        for i, day in ((0, 1), (1, 3)):
+            never = ("ring", [(day, day, -1)])
+            self.assertIs(is_tree(("pair", i, i, never, paper, never), saying, EMPTY), False)
         # A pair is of one rule, a cross of unlike ones, the first one beneath the other.
         two = le(("on", "a", X), ("on", "b", X))
         crossed = KINDS["cross"][3]
@@ -264,6 +270,21 @@ class Told(unittest.TestCase):
         paper = tree(le(first, second), EMPTY)
         self.assertTrue(slowtrees.Judge(le(first, second), [], []).is_tree(paper))
 
+    def test_many_ors(self):
+        """Of ors that wait only the first one can be split, also where it does not matter itself."""
+        for saying in or_sayings(139, 400):
+            paper = tree(saying, EMPTY)
+            self.assertTrue(slowtrees.Judge(saying, [], []).is_tree(paper), saying)
+
+    def test_an_or_behind_others_that_do_not_matter(self):
+        apart = ("and", le(X, ("add", 1, X)), le(Y, ("add", 1, Y)))
+        for many in (1, 2, 3):
+            saying = apart
+            for number in range(many):
+                saying = ("or", ("and", le(X, ("add", number, Y)), le(Y, ("add", 3, X))), saying)
+            paper = tree(saying, EMPTY)
+            self.assertTrue(slowtrees.Judge(saying, [], []).is_tree(paper))
+
 
 class Nodes(unittest.TestCase):
     def test_size_and_rings(self):
@@ -287,6 +308,43 @@ class Nodes(unittest.TestCase):
         for saying, log, promises in true_sayings(133, 100):
             paper = tree(saying, Book(log, promises))
             self.assertEqual((size(paper), rings(paper)), (slowtrees.nodes(paper), slowtrees.rings(paper)))
+
+
+def or_sayings(seed, many):
+    """Sayings that hold for all, the contrary of which has several ors that wait, one within the other or not."""
+    draw = random.Random(seed)
+
+    def end():
+        told = draw.choice([X, Y, ZERO, ("late", X, Y), ("soon", Y, X)])
+        return told if draw.random() < 0.4 else ("add", draw.randint(-2, 2), told)
+
+    def part(depth):
+        if depth == 0:
+            return le(end(), end()) if draw.random() < 0.6 else ("not", le(end(), end()))
+        return (draw.choice(["and", "or"]), part(depth - 1), part(depth - 1))
+
+    def both():
+        return ("and", part(draw.randint(0, 1)), part(draw.randint(0, 1)))
+
+    found = 0
+    while found < many:
+        saying = ("or", both(), ("or", both(), both()))
+        if known_books.pieces(saying) <= 60 and tree(saying, EMPTY) is not None:
+            found += 1
+            yield saying
+
+
+def drawn_tree(draw, judge, force, waiting, depth):
+    """A tree whose splits are drawn; None where it comes to no ring so."""
+    ring = ring_of(len(judge.listed), sorted(force))
+    heads = [(formula[0], number) for number, formula in enumerate(judge.own) if formula[0] in ("late", "soon")]
+    heads += [("or",)] * (3 if waiting else 0)
+    if depth == 0 or not heads or ring is not None and draw.random() < 0.7:
+        return None if ring is None else ("ring", ring)
+    head = draw.choice(heads)
+    parts = [drawn_tree(draw, judge, force | set(bounds), left, depth - 1)
+             for bounds, left in judge.ways(head, waiting)]
+    return None if None in parts else head + tuple(parts)
 
 
 class Spare(unittest.TestCase):
@@ -319,6 +377,21 @@ class Spare(unittest.TestCase):
                 self.assertIs(is_tree(short, saying, book) and is_spare(short, saying, book), True)
                 grown, spare = grown + (not judge.spare(value)), spare + judge.spare(value)
         self.assertTrue(min(grown, spare) > 60, (grown, spare))
+
+    def test_drawn_trees_of_many_ors(self):
+        draw = random.Random(137)
+        found = {"needless": 0, "spare": 0, "ors": 0}
+        for saying in or_sayings(138, 150):
+            judge = slowtrees.Judge(saying, [], [])
+            for value in [drawn_tree(draw, judge, judge.force, judge.waiting, 6) for _ in range(3)]:
+                if value is not None:
+                    short = shorter(value, saying, EMPTY)
+                    self.assertTrue(judge.is_tree(short) and judge.spare(short))
+                    self.assertLessEqual(size(short), size(value))
+                    self.assertIs(is_spare(value, saying, EMPTY), judge.spare(value))
+                    found["spare" if judge.spare(value) else "needless"] += 1
+                    found["ors"] += str(short).count("'or'") > 1
+        self.assertTrue(min(found.values()) > 30, found)
 
     def test_one_and_several(self):
         saying, log, promises, paper = KINDS["late"]

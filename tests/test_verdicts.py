@@ -80,6 +80,25 @@ class Verdicts(unittest.TestCase):
         self.check_all(le(on("b", X), on("a", ("add", 1, X))), leads)
         self.check_breaks(le(on("a", X), on("b", ("add", 1, X))), leads)
 
+    def test_ands_within_ors(self):
+        """Of each or that waits, both parts are ands: one part of each is so on the least days, never a whole one."""
+        apart = [("or", le(("add", 1, first), second), le(second, first)) for first, second in (
+            (X, Y), (Y, X), (on("a", X), on("a", Y)), (X, on("b", X)), (ZERO, Y))]
+        for first in apart:
+            for second in apart:
+                self.check_all(("and", first, second))
+                self.check_breaks(("and", first, ("or", second[1], le(("add", 1, second[2][1]), second[2][2]))))
+
+    def test_pictures_keep_their_keys_sorted(self):
+        for first in "zxpqy":
+            for rule in "hgcab":
+                told = on(rule, on("d", ("late", ("day", first), on("b", ("day", "s")))))
+                picture = broken(le(told, ("day", "q")), EMPTY)
+                for keys in map(list, picture):
+                    self.assertEqual(keys, sorted(keys))
+                for served in picture[1].values():
+                    self.assertEqual(served, sorted(served))
+
     def test_no_rules_keep_the_book(self):
         for book in (Book([("a", 0, 1), ("a", 0, 2)], []), Book([], [("lead", "a", 3, 2)]),
                      Book([("a", 0, 1), ("b", 1, 0)], [("quick", "a", "b")]),
