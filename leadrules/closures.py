@@ -63,7 +63,7 @@ class Closure:
     def _take(self, bound, mark):
         """Take in a bound that makes no ring."""
         first, second, most = bound
-        onward = [(day, gap) for day, gap in enumerate(self._most[second]) if gap is not None]
+        onward = [(other, rest) for other, rest in enumerate(self._most[second]) if rest is not None]
         for day, row in enumerate(self._most):
             gap = None if row[first] is None else row[first] + most
             if gap is not None and (row[second] is None or gap < row[second]):

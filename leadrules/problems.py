@@ -79,7 +79,7 @@ class Problem:
         for rule, day, shift, answer, answer_shift in self.spots[:self.spots_of_saying]:
             served = asked.setdefault(rule, {})
             served[days[day] + shift] = days[answer] + answer_shift
-        answers = {rule: [(day, asked[rule][day]) for day in sorted(asked[rule])] for rule in sorted(asked)}
+        answers = {rule: [(at, asked[rule][at]) for at in sorted(asked[rule])] for rule in sorted(asked)}
         return ({name: named[name] for name in sorted(named)}, answers)
 
     def _is_cross(self, place, other):
