@@ -15,7 +15,7 @@ class Book:
         _need_rows(log)
         _need_promises(promises)
         self._log = sorted(set(log))
-        self._promises = sorted({promise: True for promise in promises}, key=_promise_place)
+        self._promises = sorted({promise: True for promise in promises}, key=promise_place)
         if len(self._log) > self.MOST_ROWS:
             raise TooMany("rows", self.MOST_ROWS)
         if len(self._promises) > self.MOST_PROMISES:
@@ -103,7 +103,7 @@ def need_promise(value):
         raise InvalidPromise(value)
 
 
-def _promise_place(promise):
+def promise_place(promise):
     """What promises are sorted by: leads first, None ahead of all INTEGERS."""
     if promise[0] == "quick":
         return (1, promise[1], promise[2])

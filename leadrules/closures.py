@@ -26,6 +26,15 @@ class Closure:
         """The greatest number of days by which the first day can be behind the second one; None without one."""
         return self._most[first][second]
 
+    def way(self, first, second):
+        """The list of (bound, mark) that leads from a day to another one at the least sum."""
+        way = []
+        while first != second:
+            head = self._heads[first][second]
+            way.append(head)
+            first = head[0][1]
+        return way
+
     def admits(self, bounds):
         """Whether each one of some bounds, alone, makes no ring."""
         for bound in bounds:
@@ -38,7 +47,7 @@ class Closure:
         for bound in bounds:
             first, second, most = bound
             if self._makes_ring(bound):
-                return [(bound, mark)] + self._way(second, first)
+                return [(bound, mark)] + self.way(second, first)
             gap = self._most[first][second]
             if gap is None or most < gap:
                 self._take(bound, mark)
@@ -73,12 +82,3 @@ class Closure:
                     if row[other] is None or gap + rest < row[other]:
                         row[other] = gap + rest
                         heads[other] = head
-
-    def _way(self, first, second):
-        """The list of (bound, mark) that leads from a day to another one at the least sum."""
-        way = []
-        while first != second:
-            head = self._heads[first][second]
-            way.append(head)
-            first = head[0][1]
-        return way

@@ -107,9 +107,17 @@ def woven(rows):
     if not _is_filled_list(rows) or not all([_is_row_of_chains(row) for row in rows]):
         raise InvalidRows(rows)
     need_few_pieces([chain for row in rows for chain in row])
-    formula = _joined_by("late", [_joined_by("soon", row) for row in rows])
+    formula = joined_by("late", [joined_by("soon", row) for row in rows])
     need_few_pieces([formula])
     return formula
+
+
+def joined_by(word, parts):
+    """Formulas or sayings within a word of two parts: what was joined so far, and the next one."""
+    joined = parts[0]
+    for part in parts[1:]:
+        joined = (word, joined, part)
+    return joined
 
 
 def has_one_name(formula):
@@ -172,14 +180,6 @@ def _is_filled_list(value):
 def _is_row_of_chains(value):
     """Whether a value is a list of chains that is not empty."""
     return _is_filled_list(value) and all([is_chain(chain) for chain in value])
-
-
-def _joined_by(word, formulas):
-    """Formulas within late or soon: what was joined so far, and the next one."""
-    joined = formulas[0]
-    for formula in formulas[1:]:
-        joined = (word, joined, formula)
-    return joined
 
 
 def _need_turning(formula, day, world):

@@ -103,7 +103,7 @@ def asks_of(world, days, formula):
     need_days(days)
     need_formula(formula)
     need_known(formula, days, world)
-    return _asked_in(world, days, formula)
+    return asked_in(world, days, formula)
 
 
 def picture_of(world, days, saying):
@@ -112,7 +112,7 @@ def picture_of(world, days, saying):
     need_days(days)
     need_saying(saying)
     need_known(saying, days, world)
-    return ({name: days[name] for name in names_in(saying)}, _asked_in(world, days, saying))
+    return ({name: days[name] for name in names_in(saying)}, asked_in(world, days, saying))
 
 
 def keeps(world, book):
@@ -163,7 +163,7 @@ def _first_against_pair(spots, book):
     return None
 
 
-def _asked_in(world, days, told):
+def asked_in(world, days, told):
     """What the world is asked while what is told is reckoned: sorted, none twice."""
     asked = {}
     for piece in all_pieces(told):

@@ -18,10 +18,9 @@ class Problem:
         self.spots = own_places(self.listed)
         self.spots_of_saying = len(self.spots)
         self.spots = self.spots + row_places(book)
-        self.bounds = bounds_in(self.listed, self.spots, book)
+        self._hold_in_force(bounds_in(self.listed, self.spots, book))
         self.given, self.waiting = opened_by(self.listed, contrary_of(saying))
         self._beneath = {pair: True for pair in quick_pairs(book)}
-        self._in_force = {bound: True for bound in self.bounds}
 
     def is_given(self, bound):
         """Whether a bound is in force from the beginning, the contrary not looked at."""
@@ -81,6 +80,11 @@ class Problem:
             served[days[day] + shift] = days[answer] + answer_shift
         answers = {rule: [(at, asked[rule][at]) for at in sorted(asked[rule])] for rule in sorted(asked)}
         return ({name: named[name] for name in sorted(named)}, answers)
+
+    def _hold_in_force(self, bounds):
+        """Keep bounds as those from the beginning: sorted, none twice."""
+        self._in_force = {bound: True for bound in bounds}
+        self.bounds = sorted(self._in_force)
 
     def _is_cross(self, place, other):
         """Whether two places are of unlike rules, that of the first one beneath that of the other."""

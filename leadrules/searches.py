@@ -4,6 +4,7 @@ from leadrules.closures import Closure
 from leadrules.errors import TooMany
 from leadrules.leastways import all_kept
 from leadrules.problems import Problem
+from leadrules.treeforms import node_of
 
 MOST_NODES = 4000
 
@@ -34,6 +35,10 @@ class Split:
         self._needs = case.marks if head[0] == "or" else 0
         self._done = None
 
+    def many_done(self):
+        """How many ways are done."""
+        return len(self._trees)
+
     def next_way(self):
         """The (bounds, waiting) of the next way."""
         return self._ways[len(self._trees)]
@@ -51,7 +56,7 @@ class Split:
             # The tree does without what this way brought: it stands in the place of the whole split.
             self._done = done
         elif len(self._trees) == len(self._ways):
-            self._done = (self.head + tuple(self._trees), self._needs)
+            self._done = (node_of(self.head, self._trees), self._needs)
 
     def done(self):
         """The part that stands for the whole split; None as long as it is not done."""
@@ -97,18 +102,30 @@ class Search:
 
     def _gone_down(self, split):
         """The next way of a split, as (done, None) if it ends in a ring, as (None, case) otherwise."""
-        bounds, waiting = split.next_way()
         closure = split.case.closure.copied()
-        ring = closure.tell(bounds, split.mark)
+        ring = self._told(closure, split)
         if ring is not None:
             self._count()
             return (self._closed_by(ring), None)
         marks = split.case.marks | split.mark if split.is_or() else split.case.marks
-        return (None, Case(closure, waiting, marks))
+        return (None, Case(closure, split.next_way()[1], marks))
+
+    def _told(self, closure, split):
+        """Tell a closure the next way of a split: a ring if it makes one, else None."""
+        return closure.tell(split.next_way()[0], split.mark)
+
+    def _part(self, ring):
+        """The done part that a ring makes."""
+        return ring_part(ring)
+
+    def _rank(self, closure, head, ways):
+        """By what splits are chosen, told what is in force: the least one goes first."""
+        admitted = len([way for way in ways if closure.admits(way[0])])
+        return (min(admitted, 2), -self._used.get(head, 0), admitted)
 
     def _closed_by(self, ring):
         """The done part that a ring makes."""
-        done = ring_part(ring)
+        done = self._part(ring)
         for split in self._open:
             if done[1] & split.mark != 0:
                 self._used[split.head] = self._used.get(split.head, 0) + 1
@@ -128,8 +145,7 @@ class Search:
                 unkept[head] = ways
         best, place = None, None
         for head, ways in unkept.items():
-            admitted = len([way for way in ways if case.closure.admits(way[0])])
-            other = (min(admitted, 2), -self._used.get(head, 0), admitted)
+            other = self._rank(case.closure, head, ways)
             if best is None or other < place:
                 best, place = head, other
         return Split(case, best, unkept[best], 1 << len(self._open))

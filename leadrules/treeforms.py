@@ -18,7 +18,7 @@ def is_formed(value):
         if node[0] == "ring":
             if len(node) != 2 or not are_bounds(node[1]):
                 return False
-        elif not _is_formed_split(node):
+        elif not is_formed_split(node):
             return False
         else:
             waiting.extend(parts_of_node(node))
@@ -33,6 +33,11 @@ def parts_of_node(node):
 def head_of(node):
     """What a node that is no ring begins with: its word and its numbers."""
     return node[:1 + NUMBERS[node[0]]]
+
+
+def node_of(head, trees):
+    """The node that begins so, with the trees right within it: those of a rest stand in a list."""
+    return head + ((list(trees),) if head[0] == "rest" else tuple(trees))
 
 
 def all_nodes(paper):
@@ -88,7 +93,7 @@ def top_of(problem):
     return Place(problem, problem.given, problem.waiting)
 
 
-def _is_formed_split(node):
+def is_formed_split(node):
     """Whether a tuple with a word has the form of a split, its trees not looked at."""
     if node[0] not in NUMBERS or len(node) != 1 + NUMBERS[node[0]] + TREES[node[0]]:
         return False

@@ -11,7 +11,7 @@ class Examples(unittest.TestCase):
         example = doctest.DocTestParser().get_doctest(text, {}, "examples", "examples.txt", 0)
         runner = doctest.DocTestRunner(verbose=False)
         runner.run(example)
-        self.assertEqual((runner.failures, runner.tries), (0, 55))
+        self.assertEqual((runner.failures, runner.tries), (0, 87))
 
 
 if __name__ == "__main__":

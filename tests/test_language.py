@@ -19,7 +19,7 @@ BUILTINS = set("""len range enumerate zip min max sum abs sorted reversed int st
 METHODS = set("""append clear copy count endswith extend find get index insert isalnum isalpha isdigit islower isspace
  isupper items join keys ljust lower lstrip partition pop remove replace reverse rfind rjust rpartition rsplit rstrip
  setdefault split splitlines startswith strip update upper values zfill bit_length""".split())
-DOUBLE = {"__init__", "__eq__", "__repr__", "__str__", "__len__", "__call__"}
+DOUBLE = {"__init__", "__eq__", "__repr__", "__str__", "__len__", "__call__", "__contains__", "__enter__", "__exit__"}
 BARRED = set("""register mro elements open input law version_info with_traceback add_note attrgetter breakpoint builtins
  compile copyright credits delattr dir eval exec exit gc getattr globals hasattr help id importlib license locals
  methodcaller os quit setattr vars sys format format_map _cold _outside _record""".split())
@@ -28,9 +28,10 @@ WORDS = re.compile(r"\b(type|typing|typing_extensions|enum|Enum|IntEnum|StrEnum|
 # A doctest that ran ahead in the same process leaves its last value as _ there.
 OF_PYTHON = set(dir(builtins)) - {"_"}
 STATEMENTS = (ast.Assign, ast.AugAssign, ast.If, ast.While, ast.For, ast.Return, ast.Break, ast.Continue, ast.Pass,
-              ast.Raise, ast.Assert, ast.Delete, ast.Expr, ast.FunctionDef, ast.ClassDef, ast.ImportFrom)
-BARRED_NODES = (ast.Lambda, ast.GeneratorExp, ast.Yield, ast.YieldFrom, ast.Try, ast.With, ast.Global, ast.Nonlocal,
-                ast.Await, ast.NamedExpr, ast.AnnAssign, ast.Match, ast.Import, ast.Div, ast.Set)
+              ast.Raise, ast.Assert, ast.Delete, ast.Expr, ast.FunctionDef, ast.ClassDef, ast.ImportFrom, ast.Try,
+              ast.With)
+BARRED_NODES = (ast.Lambda, ast.GeneratorExp, ast.Yield, ast.YieldFrom, ast.Global, ast.Nonlocal, ast.Await,
+                ast.NamedExpr, ast.AnnAssign, ast.Match, ast.Import, ast.Div, ast.Set)
 MODIFYING = {"append", "clear", "extend", "insert", "pop", "remove", "reverse", "setdefault", "update"}
 
 
@@ -42,6 +43,11 @@ def assigned(node):
     """All names that are parameters of a function or are assigned in it."""
     names = [argument.arg for argument in node.args.args]
     return names + [part.id for part in ast.walk(node) if isinstance(part, ast.Name) and isinstance(part.ctx, ast.Store)]
+
+
+def functions_of(node):
+    """The functions directly in a class."""
+    return [row for row in node.body if isinstance(row, ast.FunctionDef)]
 
 
 class Language(unittest.TestCase):
@@ -136,10 +142,7 @@ class Language(unittest.TestCase):
 
     def test_statements_and_expressions(self):
         def check(path, text, tree):
-            # A star stands in a call of zip alone, over a name or an attribute off one.
-            starred = [call.args[0] for call in ast.walk(tree) if isinstance(call, ast.Call) and call.args
-                       and getattr(call.func, "id", None) == "zip" and isinstance(call.args[0], ast.Starred)
-                       and re.fullmatch(r"\*\w+(\.\w+)?", ast.unparse(call.args[0]))]
+            starred = self.right_stars(tree)
             for node in ast.walk(tree):
                 self.assertNotIsInstance(node, BARRED_NODES)
                 if isinstance(node, ast.stmt):
@@ -153,9 +156,71 @@ class Language(unittest.TestCase):
                     self.assertIsInstance(node.comparators[0], ast.Constant)
                 if isinstance(node, ast.FunctionDef):
                     self.assertIsNone(node.returns)
-                    self.assertFalse(node.args.vararg or node.args.kwarg or node.args.kwonlyargs or node.args.posonlyargs)
+                    self.assertFalse(node.args.kwarg or node.args.kwonlyargs or node.args.posonlyargs)
+                    if node.args.vararg:
+                        self.assertEqual([argument.arg for argument in node.args.args], ["self"])
+                if isinstance(node, ast.Dict):
+                    self.assertTrue(all(key is not None or isinstance(value, ast.Name)
+                                        for key, value in zip(node.keys, node.values)))
 
         self.each(check)
+
+    def right_stars(self, tree):
+        """The stars that stand alone in a call, or first in a tuple, over a name or an attribute off one."""
+        calls = [node.args for node in ast.walk(tree) if isinstance(node, ast.Call) and len(node.args) == 1]
+        tuples = [node.elts for node in ast.walk(tree) if isinstance(node, ast.Tuple) and isinstance(node.ctx, ast.Load)]
+        firsts = [parts[0] for parts in calls + tuples if parts and isinstance(parts[0], ast.Starred)]
+        return [star for star in firsts if re.fullmatch(r"\*\w+(\.\w+)?", ast.unparse(star))]
+
+    def test_own_errors_are_caught_alone(self):
+        own = {node.name for node in ast.parse((PACKAGE / "errors.py").read_text()).body if isinstance(node, ast.ClassDef)}
+
+        def check(path, text, tree):
+            for node in ast.walk(tree):
+                if isinstance(node, ast.Try):
+                    self.assertEqual(node.finalbody, [])
+                    for handler in node.handlers:
+                        told = handler.type.elts if isinstance(handler.type, ast.Tuple) else [handler.type]
+                        self.assertLessEqual({error.id for error in told}, own)
+
+        self.each(check)
+
+    def test_with_stands_over_own_objects(self):
+        holding = {node.name for path in files() for node in ast.parse(path.read_text()).body
+                   if isinstance(node, ast.ClassDef) and "__enter__" in {row.name for row in functions_of(node)}}
+
+        def check(path, text, tree):
+            for node in ast.walk(tree):
+                if isinstance(node, ast.With):
+                    for item in node.items:
+                        self.assertIn(item.context_expr.func.id, holding)
+                if isinstance(node, ast.FunctionDef) and node.name == "__exit__":
+                    for row in node.body:
+                        self.assertRegex(ast.unparse(row), r"^(self(\.\w+)+ = self(\.\w+)+|pass|return None)$")
+
+        self.each(check)
+
+    def test_methods_properties_and_attributes_have_names_of_their_own(self):
+        classes = {node.name: node for path in files() for node in ast.parse(path.read_text()).body
+                   if isinstance(node, ast.ClassDef)}
+        properties = {row.name for node in classes.values() for row in functions_of(node)
+                      if any(getattr(mark, "id", "") == "property" for mark in row.decorator_list)}
+        methods = {row.name for node in classes.values() for row in functions_of(node)
+                   if row.name not in properties}
+        self.assertFalse(properties & methods)
+
+        def check(path, text, tree):
+            for node in ast.walk(tree):
+                if isinstance(node, ast.Attribute) and isinstance(node.ctx, ast.Store):
+                    self.assertNotIn(node.attr, properties)
+
+        self.each(check)
+        for name, node in classes.items():
+            chain = [node] + [classes[base.id] for base in node.bases if base.id in classes]
+            known = {row.name for one in chain for row in functions_of(one)}
+            stored = {part.attr for one in chain for part in ast.walk(one)
+                      if isinstance(part, ast.Attribute) and isinstance(part.ctx, ast.Store)}
+            self.assertFalse(known & stored, name)
 
     def test_names(self):
         def check(path, text, tree):

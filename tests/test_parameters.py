@@ -4,16 +4,19 @@ import copy
 import inspect
 import unittest
 
-from leadrules import (answers, basics, books, bounds, daylists, either, formulas, laid, leastways, loose, pictures,
-                       promised, reasons, sayings, slack, sure, tables, trees, verdicts)
+from leadrules import (answers, asks, basics, beside, books, bounds, commands, daylists, desk, either, formulas, known,
+                       laid, leastways, legs, loose, papers, pictures, plans, promised, readers, reasons, rests, sayings,
+                       slack, sure, tables, texts, trees, turns, verdicts)
 from leadrules.books import Book
+from leadrules.desk import Desk, Trial
 from leadrules.tables import Table
-from tests import cases, proof_cases, sure_cases
+from tests import calendar_cases, cases, plan_cases, proof_cases, sure_cases, text_cases
 from tests.wrong import ANYTHING, check_refused, raised
 
 # Errors of parameters that hang on another parameter, so that one wrong value is due ahead of it.
 SEQUENCES = {
     "trimmed": ["saying", "picture", "book"],
+    "told_out": ["saying", "calendars", "picture"],
 }
 
 INTERFACE = {
@@ -65,17 +68,46 @@ INTERFACE = {
                " first_cause(saying,book) is_cause(value,saying,book)",
     "promised": "follows(promise,book) follow_saying(promise) needless(book) slim(book) sure_lead(book,rule)"
                 " quicker(book)",
+    "rests": "calendar_length(calendars) read_days(saying,book,calendars) known_bounds(saying,book,calendars)"
+             " rest_bounds(saying,book,calendars,day,rest)",
+    "legs": "leg_sum(leg,length,rests) legs_of(many,bounds,length,rests) is_legs(many,bounds,length,rests,value)"
+            " rested_days(many,bounds,length,rests) are_rested_days(many,bounds,length,rests,value)",
+    "known": "known_value(picture,book,calendars,formula) known_holds(picture,book,calendars,saying)"
+             " known_verdict(saying,book,calendars) known_tree(saying,book,calendars)"
+             " is_known_tree(value,saying,book,calendars) known_broken(saying,book,calendars)"
+             " is_known_break(value,saying,book,calendars) known_sureness(saying,book,calendars,days)"
+             " told_out(picture,saying,book,calendars) period_rows(rule,table,day,many)",
+    "plans": "is_plan(value) taken_in(plan,part) in_sequence(plan) plan_rules(plan,part) plan_formula(plan,part)"
+             " ready(plan,part,day,world) all_ready(plan,day,world) waited_for(plan,part,day,world)"
+             " without_part(plan,other) with_delay(plan,part,many) followed(plan,part,other_plan)",
+    "beside": "later_saying(plan,part,other_plan,other_part) never_later(plan,part,other_plan,other_part,book)"
+              " most_later(plan,part,other_plan,other_part,book) left_saying(plan,part,other)"
+              " decides(plan,part,other,book) deciding(plan,part,book) spare_days(plan,part,other,most,book)",
+    "turns": "last_start(plan,part,name) first_start(plan,part,name) last_start_in(plan,part,day,world)"
+             " first_start_in(plan,part,day,world) dues(plan,part,day,world) room(plan,part,start,day,world)"
+             " sure_start(plan,part,day,book) open_start(plan,part,day,book) ready_between(plan,part,start,book)",
+    "asks": "settling(asks,saying,book) settles(asks,saying,book) parting(asks,saying,book)"
+            " is_parting(value,asks,saying,book) least_lots(menu,saying,book) answered(asks,served,saying,book)",
+    "texts": "written(thing) picture_text(picture) tree_text(tree) words_of(thing)",
+    "readers": "read(text) read_picture(text) read_tree(text)",
+    "papers": "words() is_thesis(value) is_true(thesis) contrary_thesis(thesis) paper_of(thesis) is_paper(thesis,value)",
+    "commands": "is_command(value) is_deed(value)",
+    "desk": "tried(desk,action)",
 }
 TABLE_METHODS = ("days() asked_rows() on(day) by(day) til(day) answers(day,count) is_served(day) leads() mean_lead()"
                  " fixed_days() moved(day) asked_later(day) by_table() til_table() stretched(count) shortest()"
                  " is_same(other_table) __call__(day) __init__(days)")
 BOOK_METHODS = ("with_row(row) without_row(row) with_promise(promise) without_promise(promise) joined(book)"
                 " rows_of(rule) __init__(log,promises)")
+DESK_METHODS = ("__init__(book) __len__() __contains__(label) __call__(command) saying(label) do(command)"
+                " do_all(commands) attempt(commands) lines() copy()")
+TRIAL_METHODS = "__init__(desk) __enter__() __exit__(kind,value,trace)"
 
 
 def later_cases():
     """The cases of the functions that tell papers."""
-    return proof_cases.all_cases() + sure_cases.all_cases()
+    return (proof_cases.all_cases() + sure_cases.all_cases() + calendar_cases.all_cases() + plan_cases.all_cases()
+            + text_cases.all_cases())
 
 
 def calls(text):
@@ -138,13 +170,27 @@ def judges():
             lambda value: reasons.is_reason(value, saying, book),
             lambda value: reasons.is_reason_paper(value, saying, book),
             lambda value: reasons.is_quarrel(value, sure_cases.broken_book()),
-            lambda value: reasons.is_cause(value, saying, book)]
+            lambda value: reasons.is_cause(value, saying, book)] + later_judges()
+
+
+def later_judges():
+    """The judges of calendars, plans, asks, theses and commands, told the parameters ahead of value or behind it."""
+    saying, book, week = calendar_cases.even(), Book([], []), {"c": Table([0, 2])}
+    rested = (3, [(1, 0, 6), (0, 1, -6), (2, 1, 4)], 7, {2: 3, 0: 0, 1: 5})
+    theses = [thesis for pair in text_cases.theses() for thesis in pair]
+    return [lambda value: legs.is_legs(*rested, value), lambda value: legs.are_rested_days(*rested, value),
+            lambda value: known.is_known_tree(value, saying, book, week),
+            lambda value: known.is_known_break(value, ("not", saying), book, week), plans.is_plan,
+            lambda value: asks.is_parting(value, [("a", 3)], ("le", cases.X, ("on", "a", cases.X)), book),
+            papers.is_thesis, commands.is_command, commands.is_deed] + [
+        lambda value, thesis=thesis: papers.is_paper(thesis, value) for thesis in theses]
 
 
 class Names(unittest.TestCase):
     def test_functions_stand_in_their_files(self):
         modules = (basics, books, formulas, laid, pictures, sayings, tables, cases.joined, cases.turning, cases.beneath,
-                   daylists, bounds, leastways, trees, verdicts, slack, loose, either, sure, answers, reasons, promised)
+                   daylists, bounds, leastways, trees, verdicts, slack, loose, either, sure, answers, reasons, promised,
+                   rests, legs, known, plans, beside, turns, asks, texts, readers, papers, commands, desk)
         self.assertEqual(sorted(module.__name__.split(".")[1] for module in modules), sorted(INTERFACE))
         for module in modules:
             short = module.__name__.split(".")[1]
@@ -156,16 +202,21 @@ class Names(unittest.TestCase):
                     self.assertEqual(list(inspect.signature(function).parameters), parameters)
 
     def test_methods_stand_in_their_classes(self):
-        for owner, text in ((Table, TABLE_METHODS), (Book, BOOK_METHODS)):
+        for owner, text in ((Table, TABLE_METHODS), (Book, BOOK_METHODS), (Desk, DESK_METHODS), (Trial, TRIAL_METHODS)):
             for name, parameters in calls(text):
                 with self.subTest(owner=owner.__name__, name=name):
                     self.assertEqual(list(inspect.signature(vars(owner)[name]).parameters), ["self"] + parameters)
         self.assertEqual((Table.__module__, Book.__module__), ("leadrules.tables", "leadrules.books"))
+        self.assertEqual((Desk.__module__, Trial.__module__), ("leadrules.desk", "leadrules.desk"))
 
     def test_properties_and_class_values(self):
         self.assertIsInstance(vars(Table)["length"], property)
         for name in ("log", "promises", "rules"):
             self.assertIsInstance(vars(Book)[name], property)
+        for name in ("book", "labels"):
+            self.assertIsInstance(vars(Desk)[name], property)
+        self.assertIsInstance(vars(Desk)["again"], classmethod)
+        self.assertEqual(str(inspect.signature(Desk.again)), "(book, lines)")
         self.assertIsInstance(vars(Table)["plain"], classmethod)
         self.assertEqual(str(inspect.signature(Table.plain)), "(count=1)")
         self.assertEqual(Table.MOST_LENGTH, 600)
@@ -264,8 +315,10 @@ class Alike(unittest.TestCase):
             return tuple(as_tuples(part) for part in value) if isinstance(value, (list, tuple)) else value
 
         def check(_, case):
-            other = {name: as_tuples(value) for name, value in case["arguments"].items()}
-            self.assertEqual(content(case["call"](**other)), content(case["call"](**case["arguments"])))
+            # A contrary thesis has its parts as they were passed.
+            if case["call"] is not papers.contrary_thesis:
+                other = {name: as_tuples(value) for name, value in case["arguments"].items()}
+                self.assertEqual(content(case["call"](**other)), content(case["call"](**case["arguments"])))
 
         self.each(check)
 

@@ -3,8 +3,10 @@
 import unittest
 from unittest import mock
 
-from leadrules import answers, either, loose, promised, reasons, searches, slack, sure, trees, verdicts
+from leadrules import (answers, asks, beside, either, known, loose, papers, promised, reasons, searches, slack, sure, trees,
+                       turns, verdicts)
 from leadrules.books import Book
+from leadrules.tables import Table
 from leadrules.errors import BrokenBook
 from tests import proof_cases, sure_cases
 from tests.cases import X, Y
@@ -73,6 +75,39 @@ class Nodes(unittest.TestCase):
     def test_behind_pieces(self):
         for call in asking(EMPTY, nots(60), tower(60)):
             check_too_many(self, "pieces", 60, lambda: with_most(0, call))
+
+    def test_beside_calendars(self):
+        book, week = EMPTY, {"c": Table([0, 2])}
+        for call in (known.known_verdict, known.known_tree, known.known_broken):
+            check_too_many(self, "nodes", 0, lambda: with_most(0, lambda: call(SPLIT, book, week)))
+        check_too_many(self, "nodes", 0, lambda: with_most(0, lambda: known.known_sureness(SPLIT, book, week, {})))
+        paper = known.known_tree(SPLIT, book, week)
+        self.assertIs(with_most(0, lambda: known.is_known_tree(paper, SPLIT, book, week)), True)
+        # Behind the errors of the interface, pieces and a broken book among them.
+        check_too_many(self, "pieces", 60, lambda: with_most(0, lambda: known.known_tree(nots(60), book, week)))
+        self.assertIs(raised(lambda: with_most(0, lambda: known.known_sureness(SPLIT, BROKEN, week, {}))).__class__, BrokenBook)
+
+    def test_of_plans_and_asks(self):
+        plan = {"p": ("a", 0, []), "q": ("b", 1, ["p"])}
+        late = ("le", ("num", 5), ("on", "a", ("num", 3)))
+        calls = [lambda: beside.never_later(plan, "p", plan, "q", EMPTY), lambda: beside.most_later(plan, "p", plan, "q", EMPTY),
+                 lambda: beside.decides(plan, "q", "p", EMPTY), lambda: beside.deciding(plan, "q", EMPTY),
+                 lambda: beside.spare_days(plan, "q", "p", 1, EMPTY), lambda: turns.sure_start(plan, "q", 9, EMPTY),
+                 lambda: turns.open_start(plan, "q", 9, EMPTY), lambda: turns.ready_between(plan, "q", 9, EMPTY),
+                 lambda: asks.settles([("a", 7)], late, EMPTY), lambda: asks.parting([("a", 7)], late, EMPTY),
+                 lambda: asks.least_lots([("a", 7)], late, EMPTY), lambda: asks.answered([("a", 7)], [8], late, EMPTY)]
+        for call in calls:
+            check_too_many(self, "nodes", 0, lambda: with_most(0, call))
+
+    def test_of_theses(self):
+        """Where the function of its line comes to too many nodes, a tuple is no thesis; a judge of papers searches not."""
+        thesis = ("for all", SPLIT, EMPTY)
+        self.assertIs(with_most(0, lambda: papers.is_thesis(thesis)), False)
+        self.assertIs(with_most(4000, lambda: papers.is_thesis(thesis)), True)
+        # The saying that this promise is needs a search, that it follows does not.
+        promised_thesis = ("open", ("quick", "a", "b"), EMPTY)
+        self.assertIs(with_most(0, lambda: papers.is_true(promised_thesis)), True)
+        check_too_many(self, "nodes", 0, lambda: with_most(0, lambda: papers.paper_of(promised_thesis)))
 
     def test_what_does_not_search(self):
         """Steady stands, loose papers and readings are judged, and promises follow, without it."""

@@ -128,11 +128,53 @@ NOT_STANDS = [
     (STAND, ({"x": 0}, {"a": [(0, 0), (3, True)]})), (({"x": False}, {}), ({"x": 0}, {})),
     (STAND, [{"x": 0}, {"a": [(0, 0), (3, 4)]}]), (STAND, ({"x": 0}, {"a": [[0, 0], [3, 4]]})),
 ]
+NOT_LEG_LISTS = NOT_BOUNDS + [[], (), [(0, 1, 2), (2, 0, 1)], [(0, 1, 2), (0, 1, 2)], [(1, 0, -1), (0, 1, 0), (0, 1, 0)]]
+NOT_REST_LENGTHS = NOT_LENGTHS + [15, 600, 10 ** 12]
+# For rests by a length of 7.
+NOT_RESTS = [
+    None, True, 3, "", [], (), [(0, 0)], {}, {1: 2}, {0: 1}, {0: True}, {0: False}, {False: 0}, {0: None}, {0: "0"},
+    {0: 0.0}, {0: [0]}, {0: 0, 1: 7}, {0: 0, 1: -1}, {0: 0, 1: True}, {0: 0, 1: None}, {0: 0, True: 1}, {0: 0, -1: 1},
+    {0: 0, "1": 1}, {0: 0, (1,): 1}, {0: 0, None: 1}, {0: 3, 1: 1}, {0: 0, 1: 600},
+]
+NOT_PARTS = ["", "A", "a1", "1", "a b", " a", "a-b", "a_b", "abcdefghijklm", "frAme", None, True, False, 0, 3, ["a"],
+             ("a",), {"a": 1}, b"a"]
+STEP = ("a", 2, [])
+# None of these is a plan, with or without a ring.
+NOT_PLANS = [
+    None, True, 3, "", [], (), {}, [("p", STEP)], {"p": None}, {"p": ["a", 2, []]}, {"p": ("a", 2)}, {"p": ("a", 2, [], 0)},
+    {"p": ("x", 2, [])}, {"p": (None, 2, [])}, {"p": ("ab", 2, [])}, {"p": (["a"], 2, [])}, {"p": ("a", -1, [])},
+    {"p": ("a", True, [])}, {"p": ("a", False, [])}, {"p": ("a", None, [])}, {"p": ("a", "2", [])}, {"p": ("a", 2.0, [])},
+    {"p": ("a", 2, None)}, {"p": ("a", 2, "")}, {"p": ("a", 2, {})}, {"p": STEP, "q": ("a", 2, "p")},
+    {"p": ("a", 2, ["q"])}, {"p": STEP, "q": ("a", 2, ["p", "p"])}, {"p": STEP, "o": STEP, "q": ("a", 2, ["p", "o"])},
+    {"p": STEP, "q": ("a", 2, ["p", True])}, {"p": STEP, "q": ("a", 2, ["p", 3])}, {"p": STEP, "q": ("a", 2, [["p"]])},
+    {"p": STEP, "q": ("a", 2, [None])}, {"P": STEP}, {"": STEP}, {"p1": STEP}, {"abcdefghijklm": STEP}, {True: STEP},
+    {1: STEP}, {None: STEP}, {("p",): STEP}, {"p": STEP, "q": None}, {"p": STEP, 1: STEP},
+    {"p": STEP, "q": ("a", 2, {"p": True})}, {"p" + letter: STEP for letter in "abcdefghijklm"},
+]
+NOT_ASKS = [
+    None, True, 3, "", "a", {}, ("a", 3), ["a", 3], [None], [("a",)], [("a", 3, 4)], [["a", 3]], [("x", 3)], [(1, 3)],
+    [("a", True)], [("a", False)], [("a", None)], [("a", "3")], [("a", 3.0)], [("a", [3])], [(["a"], 3)], [("ab", 3)],
+    [("a", 3), ("a", 3)], [("a", 3), ("b", 3), ("a", 3)], [("a", 3), None], [("a", 3), ("b", True)], {("a", 3): True},
+    [("a", day) for day in range(5)] + [("a", 0)],
+]
+# For two asks.
+NOT_SERVED = [None, True, 3, "", "ab", {}, {1: 2, 3: 4}, [], [1], [1, 2, 3], [1, True], [False, 1], [1, None], [1, "2"],
+              [1, 2.0], [[1], 2], [1, (2,)], (1, True), ((1, 2),)]
+NOT_THINGS = [None, True, 3, "", "formula day x", [], (), {}, ["day", "x"], ("day", "a"), ("num", True), ("le", X), ("not", X),
+              [0, 2], {"a": TABLE}, ([], []), ("le", X, LE), ("on", "x", X), Table, Book, object()]
+NOT_TREE_FORMS = NOT_TREES + [("ring", []), ("ring", ()), ("or", RING, ("ring", [])), ("late", 3, ("ring", []), RING)]
+NOT_TEXTS = [None, True, False, 0, 3, [], (), {}, ["table 0\n"], ("table 0\n",), b"table 0\n", TABLE, X, 1.0]
+NOT_COMMANDS = [
+    None, True, 3, [], (), {}, ["rows"], ("rows",), b"rows", "", " ", "Rows", "rows ", " rows", "rows 1", "row", "undo 1",
+    "saw", "saw a", "saw a 3", "saw a 3 9 1", "saw  a 3 9", "saw x 3 9", "saw a 03 9", "saw a 3 -0", "saw a +3 9", "states\n",
+    "watch", "watch l", "watch L le num 1 num 2", "watch l day x", "ask day x", "least le day x day x", "slack day x",
+]
 NOT_BOOKS = [None, 3, "book", [], {}, ([], []), TABLE]
 # For judges: values of all kinds.
 ANYTHING = (NOT_DAYS + NOT_RULES + NOT_NAMES + NOT_FORMULAS + NOT_SAYINGS + NOT_DAY_DICTS + NOT_WORLDS + NOT_TABLES
             + NOT_ROWS + NOT_PROMISES + NOT_PICTURES + NOT_BOUNDS + NOT_PLACES + NOT_TREES + NOT_FORMULA_LISTS
-            + NOT_PAIRS + NOT_ROW_LISTS + NOT_STANDS + [Book([], []), object(), Table, print, b"", 10 ** 30, -10 ** 30])
+            + NOT_PAIRS + NOT_ROW_LISTS + NOT_STANDS + NOT_LEG_LISTS + NOT_RESTS + NOT_PARTS + NOT_PLANS + NOT_ASKS
+            + NOT_SERVED + NOT_TREE_FORMS + NOT_COMMANDS + [Book([], []), object(), Table, print, b"", 10 ** 30, -10 ** 30])
 
 
 def raised(action):
