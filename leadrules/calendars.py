@@ -2,7 +2,9 @@
 
 from math import lcm
 
+from leadrules.common import need_few_pieces
 from leadrules.errors import KnownRule, TooMany
+from leadrules.sayings import need_saying
 from leadrules.tables import need_world
 
 MOST_LENGTH = 14
@@ -32,3 +34,12 @@ def need_short(calendars):
     """Raise TooMany if the length of calendars is above 14."""
     if length_of(calendars) > MOST_LENGTH:
         raise TooMany("length", MOST_LENGTH)
+
+
+def need_asked_beside(saying, book, calendars):
+    """Raise an error unless it can be asked of a saying, a book and calendars whether it holds."""
+    need_saying(saying)
+    need_calendars(calendars)
+    need_unknown(calendars, book)
+    need_short(calendars)
+    need_few_pieces([saying])

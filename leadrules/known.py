@@ -1,6 +1,6 @@
 """Sayings beside a book and calendars: known trees, known breaks, and what is sure."""
 
-from leadrules.calendars import need_calendars, need_short, need_unknown
+from leadrules.calendars import need_asked_beside, need_calendars, need_short, need_unknown
 from leadrules.common import names_in, need_count, need_day, need_days, need_few_pieces, need_rule, rules_in
 from leadrules.errors import InvalidPicture
 from leadrules.formulas import need_formula, need_names, reckoned
@@ -38,25 +38,25 @@ def known_verdict(saying, book, calendars):
 
 def known_tree(saying, book, calendars):
     """A known tree; None if the saying breaks."""
-    _need_asked(saying, book, calendars)
+    need_asked_beside(saying, book, calendars)
     return known_out(saying, book, calendars)[0]
 
 
 def is_known_tree(value, saying, book, calendars):
     """Whether a value is a known tree."""
-    _need_asked(saying, book, calendars)
+    need_asked_beside(saying, book, calendars)
     return is_right_known(value, KnownProblem(saying, book, calendars))
 
 
 def known_broken(saying, book, calendars):
     """A known break; None if the saying holds for all."""
-    _need_asked(saying, book, calendars)
+    need_asked_beside(saying, book, calendars)
     return known_out(saying, book, calendars)[1]
 
 
 def is_known_break(value, saying, book, calendars):
     """Whether a value is a known break."""
-    _need_asked(saying, book, calendars)
+    need_asked_beside(saying, book, calendars)
     return _breaks(value, saying, book, calendars)
 
 
@@ -94,15 +94,6 @@ def period_rows(rule, table, day, many):
     need_day(day)
     need_count(many)
     return [(rule, day + more, table.on(day + more)) for more in range(many)]
-
-
-def _need_asked(saying, book, calendars):
-    """Raise an error unless it can be asked of a saying, a book and calendars whether it holds."""
-    need_saying(saying)
-    need_calendars(calendars)
-    need_unknown(calendars, book)
-    need_short(calendars)
-    need_few_pieces([saying])
 
 
 def _need_laid(picture, book, calendars, told):

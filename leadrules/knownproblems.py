@@ -14,18 +14,18 @@ class KnownProblem(Problem):
         super().__init__(saying, book)
         self.many_rests = length_of(calendars)
         self._calendars = dict(calendars)
-        # From each read day to its places of rules of the calendars.
+        # From each read day to the (rule, shift, answer) of its places of rules of the calendars.
         self._readings = {}
-        for spot in self.spots[:self.spots_of_saying]:
-            if spot[0] in calendars:
-                self._readings.setdefault(spot[1], []).append(spot)
+        for rule, day, shift, answer, _ in self.spots[:self.spots_of_saying]:
+            if rule in calendars:
+                self._readings.setdefault(day, []).append((rule, shift, answer))
         self.read = sorted(self._readings)
         self._hold_in_force(self.bounds + self._more_bounds())
 
     def rest_bounds(self, day, rest):
         """The sorted list of the bounds that a rest of a read day tells."""
         bounds = {}
-        for rule, _, shift, answer, _ in self._readings[day]:
+        for rule, shift, answer in self._readings[day]:
             served = self._calendars[rule].on(rest + shift)
             bounds[(answer, day, served - rest)] = True
             bounds[(day, answer, rest - served)] = True
@@ -34,7 +34,7 @@ class KnownProblem(Problem):
     def is_served(self, day, days):
         """Whether days for the day numbers are, for all places of a read day, as the tables serve."""
         return all([self._calendars[rule].on(days[day] + shift) == days[answer]
-                    for rule, _, shift, answer, _ in self._readings[day]])
+                    for rule, shift, answer in self._readings[day]])
 
     def picture(self, days):
         """The picture that days for the day numbers tell: without answers of rules of the calendars."""
@@ -44,8 +44,9 @@ class KnownProblem(Problem):
     def _more_bounds(self):
         """The bounds that the tables' leads tell of all their places, and those of the rest of day 0."""
         bounds = []
-        for rule, day, shift, answer, _ in [spot for spots in self._readings.values() for spot in spots]:
-            least, most = self._calendars[rule].leads()
-            bounds.append((answer, day, shift + most))
-            bounds.append((day, answer, -shift - least))
+        for day, readings in self._readings.items():
+            for rule, shift, answer in readings:
+                least, most = self._calendars[rule].leads()
+                bounds.append((answer, day, shift + most))
+                bounds.append((day, answer, -shift - least))
         return bounds + (self.rest_bounds(0, 0) if 0 in self._readings else [])

@@ -20,12 +20,12 @@ def order_of(value):
     return None if things is None or None in things else (words[0],) + tuple(things)
 
 
-def is_label(value):
-    """Whether a value is a label: one to eight small letters and digits, the first one a letter."""
-    if not isinstance(value, str) or not 1 <= len(value) <= MOST_SIGNS:
+def is_label(word):
+    """Whether a word is a label: one to eight small letters and digits, the first one a letter."""
+    if not 1 <= len(word) <= MOST_SIGNS:
         return False
     letters = "abcdefghijklmnopqrstuvwxyz"
-    return value[0] in letters and all([sign in letters + "0123456789" for sign in value])
+    return word[0] in letters and all([sign in letters + "0123456789" for sign in word])
 
 
 def _things_in(word, words):

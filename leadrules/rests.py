@@ -1,11 +1,9 @@
 """Calendars beside a saying and a book: the days that are read, and what their rests tell."""
 
 from leadrules.basics import is_count, is_day
-from leadrules.calendars import length_of, need_calendars, need_short, need_unknown
-from leadrules.common import need_few_pieces
+from leadrules.calendars import length_of, need_asked_beside, need_calendars, need_short
 from leadrules.errors import InvalidDay, InvalidRests
 from leadrules.knownproblems import KnownProblem
-from leadrules.sayings import need_saying
 
 
 def calendar_length(calendars):
@@ -37,9 +35,5 @@ def rest_bounds(saying, book, calendars, day, rest):
 
 def _problem_of(saying, book, calendars):
     """The problem of a saying, a book and calendars, once it is sure that there is one."""
-    need_saying(saying)
-    need_calendars(calendars)
-    need_unknown(calendars, book)
-    need_short(calendars)
-    need_few_pieces([saying])
+    need_asked_beside(saying, book, calendars)
     return KnownProblem(saying, book, calendars)

@@ -241,6 +241,11 @@ class Parting(unittest.TestCase):
             self.assertIs(is_parting(pair, [], saying, EMPTY), due)
         self.assertIs(is_parting((({"x": 3}, {"a": [(3, 3)]}), ({"x": 4}, {"a": [(4, 2)]})), [], saying, EMPTY), False)
         self.assertEqual(sorted(parting([], saying, EMPTY)[0][0]), ["x"])
+        # In whatever sequence the names stand.
+        both = le(on("a", X), on("a", Y))
+        for first, second in (({"y": 0, "x": 1}, {"x": 1, "y": 0}), ({"x": 1, "y": 0}, {"y": 0, "x": 1})):
+            pair = ((first, {"a": [(0, 3), (1, 3)]}), (second, {"a": [(0, 2), (1, 3)]}))
+            self.assertIs(is_parting(pair, [("a", 1)], both, EMPTY), True)
 
     def test_rules_have_their_own_names_again(self):
         book = Book([("h", 0, 3)], [("quick", "g", "h")])

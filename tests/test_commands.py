@@ -92,7 +92,8 @@ class Commands(unittest.TestCase):
             self.assertIs(is_command(f"{word} quick a b c"), False)
             self.assertIs(is_command(f"{word} lead a 1"), False)
             self.assertIs(is_command(f"{word} lead a 1 2 3"), False)
-            self.assertIs(is_command(f"{word} slow a b"), False)
+            for other in ("slow a b", "quick a 1 2", "slow a 1 2", "quick a - 2", "lead a b", "lead a b 1", "lead a 1 b"):
+                self.assertIs(is_command(f"{word} {other}"), False)
 
     def test_digits(self):
         for sign in ("", "-"):

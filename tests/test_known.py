@@ -238,6 +238,26 @@ class Verdicts(unittest.TestCase):
                 self.assertTrue(slowknown.is_known_break(known_broken(saying, EMPTY, calendars), saying, [], [], lists))
         self.assertTrue(min(found.values()) > 10, found)
 
+    def test_by_and_til_alone(self):
+        """Where a break hangs on the day beside the one that is asked for."""
+        draw = random.Random(324)
+        found = {True: 0, False: 0}
+        for _ in range(300):
+            lists = {"c": drawn.list_of_days(draw, draw.randint(2, 7), 4)}
+            told = (draw.choice(("by", "til")), "c", X)
+            if draw.random() < 0.5:
+                told = (draw.choice(("by", "til")), "c", add(draw.randint(-2, 2), told))
+            gaps = [slow.day_of(told, {"x": day}, lists) - day for day in range(len(lists["c"]))]
+            for saying, truth in ((le(told, add(max(gaps), X)), True), (le(told, add(max(gaps) - 1, X)), False),
+                                  (le(add(min(gaps), X), told), True), (le(add(min(gaps) + 1, X), told), False)):
+                found[truth] += 1
+                paper, picture = [call(saying, EMPTY, drawn.world(lists)) for call in (known_tree, known_broken)]
+                if truth:
+                    self.assertTrue(slowknown.Judge(saying, [], [], lists).is_known_tree(paper))
+                else:
+                    self.assertTrue(slowknown.is_known_break(picture, saying, [], [], lists))
+        self.assertEqual(found, {True: 600, False: 600})
+
     def test_two_names_by_days(self):
         """Sayings with two names and days that are told, by all days that are not too far."""
         draw = random.Random(322)
