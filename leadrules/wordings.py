@@ -9,6 +9,9 @@ from leadrules.sayings import is_saying
 PARTS = {"day": 0, "num": 0, "on": 1, "by": 1, "til": 1, "add": 1, "late": 2, "soon": 2, "le": 2, "and": 2, "or": 2,
          "not": 1}
 
+# Python itself refuses to read numbers that have a few hundred digits more.
+MOST_DIGITS = 4000
+
 
 def told_words(told):
     """The list of the words of a formula or saying."""
@@ -23,7 +26,7 @@ def told_words(told):
 def number_in(word):
     """The INTEGER that a word is; None if it is none."""
     digits = word[1:] if word.startswith("-") else word
-    if digits == "" or not all([digit in "0123456789" for digit in digits]):
+    if not 1 <= len(digits) <= MOST_DIGITS or not all([digit in "0123456789" for digit in digits]):
         return None
     if digits.startswith("0") and word != "0":
         return None

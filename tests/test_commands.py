@@ -105,6 +105,12 @@ class Commands(unittest.TestCase):
             self.assertIs(is_command(f"promise lead a {sign}{'9' * 13} -"), False)
             self.assertIs(is_command(f"release lead a - {sign}{'9' * 13}"), False)
 
+    def test_very_long_numbers(self):
+        """Judges never raise an error, also where Python reads no such number."""
+        for digits in (4000, 5000, 50000):
+            for value in (f"ask le num {'9' * digits} num 0", f"saw a {'9' * digits} 0", f"promise lead a - {'9' * digits}"):
+                self.assertIn(is_command(value), (True, False))
+
     def test_labels(self):
         for label, due in (("a", True), ("abcdefgh", True), ("abcdefghi", False), ("a1", True), ("1a", False), ("A", False),
                            ("", False), ("a b", False), ("a-", False), ("z9999999", True), ("z99999999", False)):
