@@ -367,6 +367,24 @@ class KnownTrees(unittest.TestCase):
             due = ("rest", day) not in [node[:2] for node in self.all_nodes(paper)]
             self.assertIs(is_known_tree(("rest", day, [paper, paper]), saying, EMPTY, EVEN), due)
 
+    def test_pairs_within_rests_and_rests_within_pairs(self):
+        """All splits are in vain here, so each one may stand wherever it may stand at all."""
+        saying = ("or", le(X, add(1, X)), le(on("c", X), on("c", Y)))
+        plain = known_tree(saying, EMPTY, EVEN)
+        self.assertEqual(plain[0], "legs")
+        first, second = slowknown.read_days(saying, {"c": [0, 2]})
+        pair = ("pair", 0, 1, plain, plain, plain)
+        rest = ("rest", first, [plain, plain])
+        both = ("rest", second, [rest, plain])
+        judge = slowknown.Judge(saying, [], [], {"c": [0, 2]})
+        for tree, due in ((pair, True), (rest, True), (both, True), (("rest", first, [pair, pair]), True),
+                          (("pair", 0, 1, rest, both, plain), True), (("pair", 0, 1, pair, rest, both), True),
+                          (("rest", first, [both, plain]), False), (("rest", first, [("pair", 0, 1, plain, rest, plain), plain]), False),
+                          (("pair", 1, 0, plain, plain, plain), False), (("pair", 0, 2, plain, plain, plain), False),
+                          (("cross", 0, 1, plain, plain), False), (("or", plain, plain), False)):
+            self.assertIs(judge.is_known_tree(tree), due)
+            self.assertIs(is_known_tree(tree, saying, EMPTY, EVEN), due, tree)
+
     def all_nodes(self, tree):
         parts = tree[2] if tree[0] == "rest" else [part for part in tree[1:] if isinstance(part, tuple)]
         return [tree] if tree[0] == "legs" else [tree] + [node for part in parts for node in self.all_nodes(part)]
